@@ -7,6 +7,7 @@ import (
 	"time"
 
 	"trellis/api"
+	"trellis/check"
 	"trellis/mulnat"
 )
 
@@ -80,43 +81,32 @@ func (d digits) low(n int) digits {
 	return rest
 }
 
-// samples is every list of at most three words out of a few telling ones, zero words at the high end among them.
-func samples() []list {
-	all := []list{nil}
-	for from := 0; len(all[from]) < 3; from++ {
-		for _, w := range []uint64{0, 1, high, top, 0x0123456789abcdef} {
-			all = append(all, append(append(list{}, all[from]...), w))
-		}
-	}
-	return all
-}
-
 func TestPairsByDigits(t *testing.T) {
-	lists := samples()
+	lists := check.Samples()
 	for _, a := range lists {
 		d := digitsOf(a)
 		for _, b := range lists {
 			product := d.mul(digitsOf(b))
-			wantList(t, fmt.Sprintf("Mul(%#x, %#x)", a, b), mulnat.Mul(a, b), product.words())
-			wantList(t, fmt.Sprintf("Product(%#x, %#x)", a, b), mulnat.Product(a, b), product.words())
-			wantList(t, fmt.Sprintf("MulAdd(%#x, %#x, %#x)", a, b, a), mulnat.MulAdd(a, b, a), product.add(d).words())
+			check.Words(t, fmt.Sprintf("Mul(%#x, %#x)", a, b), mulnat.Mul(a, b), product.words())
+			check.Words(t, fmt.Sprintf("Product(%#x, %#x)", a, b), mulnat.Product(a, b), product.words())
+			check.Words(t, fmt.Sprintf("MulAdd(%#x, %#x, %#x)", a, b, a), mulnat.MulAdd(a, b, a), product.add(d).words())
 			for _, n := range []int{0, 1, 15, 63, 64, 65, 100, 127, 128, 129, 192, 300, 383, 384, 1000} {
 				call := fmt.Sprintf("MulLow(%#x, %#x, %d)", a, b, n)
 				low, e := mulnat.MulLow(a, b, n)
-				wantList(t, call, low, product.low(n).words())
-				wantErrno(t, call, e, api.OK)
+				check.Words(t, call, low, product.low(n).words())
+				check.Same(t, call, e, api.OK)
 			}
 			if len(b) == 1 {
-				wantList(t, fmt.Sprintf("Word(%#x, %#x)", a, b[0]), mulnat.Word(a, b[0]), product.words())
+				check.Words(t, fmt.Sprintf("Word(%#x, %#x)", a, b[0]), mulnat.Word(a, b[0]), product.words())
 			}
 		}
-		wantList(t, fmt.Sprintf("Square(%#x)", a), mulnat.Square(a), d.mul(d).words())
+		check.Words(t, fmt.Sprintf("Square(%#x)", a), mulnat.Square(a), d.mul(d).words())
 	}
 }
 
 func TestTriplesByDigits(t *testing.T) {
 	var lists []list
-	for _, a := range samples() {
+	for _, a := range check.Samples() {
 		if len(a) < 3 {
 			lists = append(lists, a)
 		}
@@ -126,45 +116,27 @@ func TestTriplesByDigits(t *testing.T) {
 			product := digitsOf(a).mul(digitsOf(b))
 			for _, c := range lists {
 				d := digitsOf(c)
-				wantList(t, fmt.Sprintf("Product(%#x, %#x, %#x)", a, b, c), mulnat.Product(a, b, c), product.mul(d).words())
-				wantList(t, fmt.Sprintf("MulAdd(%#x, %#x, %#x)", a, b, c), mulnat.MulAdd(a, b, c), product.add(d).words())
+				check.Words(t, fmt.Sprintf("Product(%#x, %#x, %#x)", a, b, c), mulnat.Product(a, b, c), product.mul(d).words())
+				check.Words(t, fmt.Sprintf("MulAdd(%#x, %#x, %#x)", a, b, c), mulnat.MulAdd(a, b, c), product.add(d).words())
 			}
 		}
 	}
 }
 
-// mixed is a list of n words without order, other ones for each seed, with runs of zero and of greatest words between.
-func mixed(n int, seed uint64) list {
-	a := make(list, n)
-	x := seed
-	for i := range a {
-		x = x*6364136223846793005 + 1442695040888963407
-		switch x >> 59 {
-		case 0:
-			a[i] = 0
-		case 1:
-			a[i] = top
-		default:
-			a[i] = x ^ x>>29
-		}
-	}
-	return a
-}
-
 func TestLongFactorsByDigits(t *testing.T) {
 	pairs := [][2]int{{1, 300}, {63, 64}, {64, 64}, {64, 65}, {64, 127}, {64, 128}, {64, 129}, {65, 130}, {65, 300}, {100, 100}, {127, 128}, {129, 129}, {150, 290}, {200, 257}, {300, 300}}
 	for i, p := range pairs {
-		a, b := mixed(p[0], uint64(i)), mixed(p[1], uint64(1000+i))
+		a, b := check.Mixed(p[0], uint64(i)), check.Mixed(p[1], uint64(1000+i))
 		product := digitsOf(a).mul(digitsOf(b))
-		wantList(t, fmt.Sprintf("Mul of %d and %d words", p[0], p[1]), mulnat.Mul(a, b), product.words())
-		wantList(t, fmt.Sprintf("Mul of %d and %d words", p[1], p[0]), mulnat.Mul(b, a), product.words())
-		wantList(t, fmt.Sprintf("MulAdd of %d and %d words", p[0], p[1]), mulnat.MulAdd(a, b, b), product.add(digitsOf(b)).words())
-		wantList(t, fmt.Sprintf("Product of %d and %d words", p[0], p[1]), mulnat.Product(a, list{1}, b), product.words())
-		wantList(t, fmt.Sprintf("Square of %d words", p[1]), mulnat.Square(b), digitsOf(b).mul(digitsOf(b)).words())
+		check.Words(t, fmt.Sprintf("Mul of %d and %d words", p[0], p[1]), mulnat.Mul(a, b), product.words())
+		check.Words(t, fmt.Sprintf("Mul of %d and %d words", p[1], p[0]), mulnat.Mul(b, a), product.words())
+		check.Words(t, fmt.Sprintf("MulAdd of %d and %d words", p[0], p[1]), mulnat.MulAdd(a, b, b), product.add(digitsOf(b)).words())
+		check.Words(t, fmt.Sprintf("Product of %d and %d words", p[0], p[1]), mulnat.Product(a, list{1}, b), product.words())
+		check.Words(t, fmt.Sprintf("Square of %d words", p[1]), mulnat.Square(b), digitsOf(b).mul(digitsOf(b)).words())
 		n := 64*p[0] + 7
 		low, e := mulnat.MulLow(a, b, n)
-		wantList(t, fmt.Sprintf("MulLow of %d and %d words", p[0], p[1]), low, product.low(n).words())
-		wantErrno(t, "MulLow", e, api.OK)
+		check.Words(t, fmt.Sprintf("MulLow of %d and %d words", p[0], p[1]), low, product.low(n).words())
+		check.Same(t, "MulLow", e, api.OK)
 	}
 }
 
@@ -189,7 +161,7 @@ func pairByPair(a, b list) uint64 {
 // Mul takes about a quarter of the time of those here; half of it is let pass, in one of five tries, so that a busy machine does not matter.
 func TestLongFactorsTakeFewerProducts(t *testing.T) {
 	const n = 16384
-	a, b := mixed(n, 1), mixed(n, 2)
+	a, b := check.Mixed(n, 1), check.Mixed(n, 2)
 	for range 5 {
 		start := time.Now()
 		product := mulnat.Mul(a, b)

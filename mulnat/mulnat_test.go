@@ -6,35 +6,16 @@ import (
 	"testing"
 
 	"trellis/api"
+	"trellis/check"
 	"trellis/mulnat"
 )
 
 const (
-	top  = math.MaxUint64 // the greatest word
-	high = 1 << 63        // the word with its highest digit alone
+	top  = check.Top
+	high = check.High
 )
 
 type list = []uint64
-
-// repeat is a list of n words w.
-func repeat(w uint64, n int) list {
-	return slices.Repeat(list{w}, n)
-}
-
-// wantList holds what a call answers against the list that it must answer, word by word: so the least form is asked for too.
-func wantList(t *testing.T, call string, got, want list) {
-	t.Helper()
-	if !slices.Equal(got, want) {
-		t.Errorf("%s: %#x, want %#x", call, got, want)
-	}
-}
-
-func wantErrno(t *testing.T, call string, got, want api.Errno) {
-	t.Helper()
-	if got != want {
-		t.Errorf("%s: error %d, want %d", call, got, want)
-	}
-}
 
 // P2.1.
 func TestWord(t *testing.T) {
@@ -57,10 +38,10 @@ func TestWord(t *testing.T) {
 		{list{high, 0, high}, 2, list{0, 1, 0, 1}},
 		{list{1 << 32}, 1 << 31, list{high}},
 		{list{1 << 32}, 1 << 32, list{0, 1}},
-		{repeat(top, 200), top, append(append(list{1}, repeat(top, 199)...), top-1)},
-		{append(repeat(top, 200), 0, 0), 1, repeat(top, 200)},
+		{check.Repeat(top, 200), top, append(append(list{1}, check.Repeat(top, 199)...), top-1)},
+		{append(check.Repeat(top, 200), 0, 0), 1, check.Repeat(top, 200)},
 	} {
-		wantList(t, "Word", mulnat.Word(c.a, c.w), c.want)
+		check.Words(t, "Word", mulnat.Word(c.a, c.w), c.want)
 	}
 }
 
@@ -70,8 +51,8 @@ func TestMul(t *testing.T) {
 		{nil, nil, nil},
 		{list{}, list{0, 0}, nil},
 		{list{0, 0}, list{7}, nil},
-		{list{}, repeat(top, 300), nil},
-		{repeat(0, 300), repeat(top, 300), nil},
+		{list{}, check.Repeat(top, 300), nil},
+		{check.Repeat(0, 300), check.Repeat(top, 300), nil},
 		{list{3}, list{5}, list{15}},
 		{list{3, 0}, list{5, 0, 0}, list{15}},
 		{list{1}, list{0, 7, 0}, list{0, 7}},
@@ -82,8 +63,8 @@ func TestMul(t *testing.T) {
 		{list{top, top}, list{top, top}, list{1, 0, top - 1, top}},
 		{list{1, 2, 3}, list{4, 5}, list{4, 13, 22, 15}},
 	} {
-		wantList(t, "Mul", mulnat.Mul(c.a, c.b), c.want)
-		wantList(t, "Mul, turned", mulnat.Mul(c.b, c.a), c.want)
+		check.Words(t, "Mul", mulnat.Mul(c.a, c.b), c.want)
+		check.Words(t, "Mul, turned", mulnat.Mul(c.b, c.a), c.want)
 	}
 }
 
@@ -93,9 +74,9 @@ func allOnes(m, n int) list {
 		return nil
 	}
 	if m == n {
-		return slices.Concat(list{1}, repeat(0, n-1), list{top - 1}, repeat(top, n-1))
+		return slices.Concat(list{1}, check.Repeat(0, n-1), list{top - 1}, check.Repeat(top, n-1))
 	}
-	return slices.Concat(list{1}, repeat(0, m-1), repeat(top, n-m), list{top - 1}, repeat(top, m-1))
+	return slices.Concat(list{1}, check.Repeat(0, m-1), check.Repeat(top, n-m), list{top - 1}, check.Repeat(top, m-1))
 }
 
 // lengths are lengths of factors, the lesser first: all short ones, and those around which a factor is halved once, twice and thrice.
@@ -113,22 +94,22 @@ func lengths() []int {
 func TestMulOfAllOnes(t *testing.T) {
 	for i, n := range lengths() {
 		for _, m := range lengths()[:i+1] {
-			wantList(t, "Mul", mulnat.Mul(repeat(top, m), repeat(top, n)), allOnes(m, n))
-			wantList(t, "Mul, turned", mulnat.Mul(repeat(top, n), repeat(top, m)), allOnes(m, n))
+			check.Words(t, "Mul", mulnat.Mul(check.Repeat(top, m), check.Repeat(top, n)), allOnes(m, n))
+			check.Words(t, "Mul, turned", mulnat.Mul(check.Repeat(top, n), check.Repeat(top, m)), allOnes(m, n))
 		}
-		wantList(t, "Square", mulnat.Square(repeat(top, n)), allOnes(n, n))
+		check.Words(t, "Square", mulnat.Square(check.Repeat(top, n)), allOnes(n, n))
 	}
-	wantList(t, "Mul of a long and a very long factor", mulnat.Mul(repeat(top, 100), repeat(top, 20000)), allOnes(100, 20000))
-	wantList(t, "Mul of very long factors", mulnat.Mul(repeat(top, 6000), repeat(top, 7001)), allOnes(6000, 7001))
-	wantList(t, "Square of a very long factor", mulnat.Square(repeat(top, 6001)), allOnes(6001, 6001))
+	check.Words(t, "Mul of a long and a very long factor", mulnat.Mul(check.Repeat(top, 100), check.Repeat(top, 20000)), allOnes(100, 20000))
+	check.Words(t, "Mul of very long factors", mulnat.Mul(check.Repeat(top, 6000), check.Repeat(top, 7001)), allOnes(6000, 7001))
+	check.Words(t, "Square of a very long factor", mulnat.Square(check.Repeat(top, 6001)), allOnes(6001, 6001))
 }
 
 // P2.2 where halves are 0, or begin with zero words.
 func TestMulOfHoles(t *testing.T) {
-	one := func(n int) list { return append(repeat(0, n), 1) }
+	one := func(n int) list { return append(check.Repeat(0, n), 1) }
 	for _, m := range []int{0, 1, 40, 63, 64, 65, 100, 127, 128, 129, 200} {
 		for _, n := range []int{0, 1, 63, 64, 65, 128, 129, 300, 511} {
-			wantList(t, "Mul of powers of 2", mulnat.Mul(one(m), one(n)), one(m+n))
+			check.Words(t, "Mul of powers of 2", mulnat.Mul(one(m), one(n)), one(m+n))
 			// (2^64m + 1) times (2^64n + 1): at m = n the middle two fall together, at m or n = 0 the factor is 2.
 			a, b, want := one(m), one(n), one(m+n)
 			a[0]++
@@ -136,7 +117,7 @@ func TestMulOfHoles(t *testing.T) {
 			want[0]++
 			want[m]++
 			want[n]++
-			wantList(t, "Mul of powers of 2, plus 1", mulnat.Mul(a, b), want)
+			check.Words(t, "Mul of powers of 2, plus 1", mulnat.Mul(a, b), want)
 		}
 	}
 }
@@ -154,9 +135,9 @@ func TestMulAdd(t *testing.T) {
 		{list{top}, list{top}, list{top, 1}, list{0, 0, 1}},
 		{list{top, top}, list{top, top}, list{top, top, 1}, list{0, 0, 0, 0, 1}},
 		{list{2}, list{3}, list{4, 5, 6}, list{10, 5, 6}},
-		{repeat(top, 100), repeat(top, 100), list{top}, slices.Concat(list{0, 1}, repeat(0, 98), list{top - 1}, repeat(top, 99))},
+		{check.Repeat(top, 100), check.Repeat(top, 100), list{top}, slices.Concat(list{0, 1}, check.Repeat(0, 98), list{top - 1}, check.Repeat(top, 99))},
 	} {
-		wantList(t, "MulAdd", mulnat.MulAdd(c.a, c.b, c.c), c.want)
+		check.Words(t, "MulAdd", mulnat.MulAdd(c.a, c.b, c.c), c.want)
 	}
 }
 
@@ -183,8 +164,8 @@ func TestMulLow(t *testing.T) {
 		{list{0, 1}, list{0, 1}, 128, nil, api.OK},
 		{list{0, 1}, list{0, 1}, 129, list{0, 0, 1}, api.OK},
 		{list{6, 9}, list{5, 9}, 64, list{30}, api.OK}, // the words above are not in it
-		{repeat(top, 200), repeat(top, 200), 64 * 200, list{1}, api.OK},
-		{repeat(top, 200), repeat(top, 200), 64*200 + 2, slices.Concat(list{1}, repeat(0, 199), list{2}), api.OK},
+		{check.Repeat(top, 200), check.Repeat(top, 200), 64 * 200, list{1}, api.OK},
+		{check.Repeat(top, 200), check.Repeat(top, 200), 64*200 + 2, slices.Concat(list{1}, check.Repeat(0, 199), list{2}), api.OK},
 		{nil, list{7}, 0, nil, api.OK},
 		{nil, nil, math.MaxInt, nil, api.OK},
 		{list{7}, list{7}, -1, nil, api.ErrArg},
@@ -193,11 +174,11 @@ func TestMulLow(t *testing.T) {
 		{nil, nil, -1, nil, api.ErrArg},
 	} {
 		got, e := mulnat.MulLow(c.a, c.b, c.n)
-		wantList(t, "MulLow", got, c.want)
-		wantErrno(t, "MulLow", e, c.e)
+		check.Words(t, "MulLow", got, c.want)
+		check.Same(t, "MulLow", e, c.e)
 		got, e = mulnat.MulLow(c.b, c.a, c.n)
-		wantList(t, "MulLow, turned", got, c.want)
-		wantErrno(t, "MulLow, turned", e, c.e)
+		check.Words(t, "MulLow, turned", got, c.want)
+		check.Same(t, "MulLow, turned", e, c.e)
 	}
 }
 
@@ -211,9 +192,9 @@ func TestSquare(t *testing.T) {
 		{list{top}, list{1, top - 1}},
 		{list{0, 0, 3}, list{0, 0, 0, 0, 9}},
 		{list{2, 3}, list{4, 12, 9}},
-		{repeat(top, 100), slices.Concat(list{1}, repeat(0, 99), list{top - 1}, repeat(top, 99))},
+		{check.Repeat(top, 100), slices.Concat(list{1}, check.Repeat(0, 99), list{top - 1}, check.Repeat(top, 99))},
 	} {
-		wantList(t, "Square", mulnat.Square(c.a), c.want)
+		check.Words(t, "Square", mulnat.Square(c.a), c.want)
 	}
 }
 
@@ -228,7 +209,7 @@ func TestPow(t *testing.T) {
 		{nil, 0, list{1}, api.OK},
 		{list{0, 0}, 0, list{1}, api.OK},
 		{list{7}, 0, list{1}, api.OK},
-		{repeat(top, 300), 0, list{1}, api.OK},
+		{check.Repeat(top, 300), 0, list{1}, api.OK},
 		{nil, 1, nil, api.OK},
 		{nil, 3, nil, api.OK},
 		{list{0, 0}, 256, nil, api.OK},
@@ -243,7 +224,7 @@ func TestPow(t *testing.T) {
 		{list{2}, 255, list{0, 0, 0, high}, api.OK},
 		{list{2}, 256, list{0, 0, 0, 0, 1}, api.OK},
 		{list{10}, 20, list{0x6bc75e2d63100000, 5}, api.OK},
-		{list{0, 1, 0}, 256, append(repeat(0, 256), 1), api.OK},
+		{list{0, 1, 0}, 256, append(check.Repeat(0, 256), 1), api.OK},
 		{list{1}, 257, nil, api.ErrLarge},
 		{nil, 257, nil, api.ErrLarge},
 		{list{2}, math.MaxInt, nil, api.ErrLarge},
@@ -252,8 +233,8 @@ func TestPow(t *testing.T) {
 		{list{2}, math.MinInt, nil, api.ErrArg},
 	} {
 		got, e := mulnat.Pow(c.a, c.n)
-		wantList(t, "Pow", got, c.want)
-		wantErrno(t, "Pow", e, c.e)
+		check.Words(t, "Pow", got, c.want)
+		check.Same(t, "Pow", e, c.e)
 	}
 }
 
@@ -263,8 +244,8 @@ func TestPowStepByStep(t *testing.T) {
 		want := list{1}
 		for n := range api.MaxPow + 1 {
 			got, e := mulnat.Pow(a, n)
-			wantList(t, "Pow", got, want)
-			wantErrno(t, "Pow", e, api.OK)
+			check.Words(t, "Pow", got, want)
+			check.Same(t, "Pow", e, api.OK)
 			want = mulnat.Mul(want, a)
 		}
 	}
@@ -288,11 +269,11 @@ func TestProduct(t *testing.T) {
 		{[]list{{1}, {1, 0}, {1}, {1}}, list{1}},
 		{[]list{{2}, {3}, {5}, {7}, {11}, {13}, {17}}, list{510510}},
 		{[]list{{0, 1}, {0, 2}, {0, 3}, {0, 4}, {0, 5}}, list{0, 0, 0, 0, 0, 120}},
-		{slices.Repeat([]list{{2}}, 1000), append(repeat(0, 15), 1<<40)},
-		{[]list{{top}, repeat(top, 200), {2}}, mulnat.Word(mulnat.Word(repeat(top, 200), top), 2)},
+		{slices.Repeat([]list{{2}}, 1000), append(check.Repeat(0, 15), 1<<40)},
+		{[]list{{top}, check.Repeat(top, 200), {2}}, mulnat.Word(mulnat.Word(check.Repeat(top, 200), top), 2)},
 	} {
-		wantList(t, "Product", mulnat.Product(c.of...), c.want)
+		check.Words(t, "Product", mulnat.Product(c.of...), c.want)
 	}
-	wantList(t, "Product()", mulnat.Product(), list{1})
-	wantList(t, "Product of two", mulnat.Product(list{top}, list{top}), list{1, top - 1})
+	check.Words(t, "Product()", mulnat.Product(), list{1})
+	check.Words(t, "Product of two", mulnat.Product(list{top}, list{top}), list{1, top - 1})
 }

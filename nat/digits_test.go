@@ -5,6 +5,7 @@ import (
 	"testing"
 
 	"trellis/api"
+	"trellis/check"
 	"trellis/nat"
 )
 
@@ -108,41 +109,30 @@ func (d digits) twos() int {
 	return -1
 }
 
-// samples is every list of at most three words out of a few telling ones, zero words at the high end among them.
-func samples() []list {
-	all := []list{nil}
-	for from := 0; len(all[from]) < 3; from++ {
-		for _, w := range []uint64{0, 1, high, top, 0x0123456789abcdef} {
-			all = append(all, append(append(list{}, all[from]...), w))
-		}
-	}
-	return all
-}
-
 func TestPairsByDigits(t *testing.T) {
-	lists := samples()
+	lists := check.Samples()
 	for _, a := range lists {
 		d := digitsOf(a)
 		for _, b := range lists {
 			f := digitsOf(b)
 			order := d.cmp(f)
-			wantInt(t, fmt.Sprintf("Cmp(%#x, %#x)", a, b), nat.Cmp(a, b), order)
-			wantList(t, fmt.Sprintf("Add(%#x, %#x)", a, b), nat.Add(a, b), d.add(f).words())
+			check.Same(t, fmt.Sprintf("Cmp(%#x, %#x)", a, b), nat.Cmp(a, b), order)
+			check.Words(t, fmt.Sprintf("Add(%#x, %#x)", a, b), nat.Add(a, b), d.add(f).words())
 			call := fmt.Sprintf("Sub(%#x, %#x)", a, b)
 			diff, e := nat.Sub(a, b)
 			if order < 0 {
-				wantList(t, call, diff, nil)
-				wantErrno(t, call, e, api.ErrArg)
+				check.Words(t, call, diff, nil)
+				check.Same(t, call, e, api.ErrArg)
 				continue
 			}
-			wantList(t, call, diff, d.sub(f).words())
-			wantErrno(t, call, e, api.OK)
+			check.Words(t, call, diff, d.sub(f).words())
+			check.Same(t, call, e, api.OK)
 		}
 	}
 }
 
 func TestShiftsByDigits(t *testing.T) {
-	for _, a := range samples() {
+	for _, a := range check.Samples() {
 		d := digitsOf(a)
 		for n := range 260 {
 			tryShifts(t, fmt.Sprintf("Shl(%#x, %d)", a, n), nat.Shl, []shiftCase{{a, n, d.shl(n).words(), api.OK}})
@@ -153,13 +143,13 @@ func TestShiftsByDigits(t *testing.T) {
 }
 
 func TestPlacesByDigits(t *testing.T) {
-	for _, a := range samples() {
+	for _, a := range check.Samples() {
 		d := digitsOf(a)
-		wantList(t, fmt.Sprintf("Least(%#x)", a), nat.Least(a), d.words())
-		wantInt(t, fmt.Sprintf("BitLen(%#x)", a), nat.BitLen(a), len(d))
-		wantInt(t, fmt.Sprintf("Twos(%#x)", a), nat.Twos(a), d.twos())
+		check.Words(t, fmt.Sprintf("Least(%#x)", a), nat.Least(a), d.words())
+		check.Same(t, fmt.Sprintf("BitLen(%#x)", a), nat.BitLen(a), len(d))
+		check.Same(t, fmt.Sprintf("Twos(%#x)", a), nat.Twos(a), d.twos())
 		for i := -70; i < 260; i++ {
-			wantInt(t, fmt.Sprintf("Bit(%#x, %d)", a, i), nat.Bit(a, i), d.at(i))
+			check.Same(t, fmt.Sprintf("Bit(%#x, %d)", a, i), nat.Bit(a, i), d.at(i))
 		}
 	}
 }

@@ -2,46 +2,19 @@ package nat_test
 
 import (
 	"math"
-	"slices"
 	"testing"
 
 	"trellis/api"
+	"trellis/check"
 	"trellis/nat"
 )
 
 const (
-	top  = math.MaxUint64 // the greatest word
-	high = 1 << 63        // the word with its highest digit alone
+	top  = check.Top
+	high = check.High
 )
 
 type list = []uint64
-
-// repeat is a list of n words w.
-func repeat(w uint64, n int) list {
-	return slices.Repeat(list{w}, n)
-}
-
-// wantList holds what a call answers against the list that it must answer, word by word: so the least form is asked for too.
-func wantList(t *testing.T, call string, got, want list) {
-	t.Helper()
-	if !slices.Equal(got, want) {
-		t.Errorf("%s: %#x, want %#x", call, got, want)
-	}
-}
-
-func wantErrno(t *testing.T, call string, got, want api.Errno) {
-	t.Helper()
-	if got != want {
-		t.Errorf("%s: error %d, want %d", call, got, want)
-	}
-}
-
-func wantInt(t *testing.T, call string, got, want int) {
-	t.Helper()
-	if got != want {
-		t.Errorf("%s: %d, want %d", call, got, want)
-	}
-}
 
 // P1.1.
 func TestLeast(t *testing.T) {
@@ -50,14 +23,14 @@ func TestLeast(t *testing.T) {
 		{list{}, nil},
 		{list{0}, nil},
 		{list{0, 0}, nil},
-		{repeat(0, 1000), nil},
+		{check.Repeat(0, 1000), nil},
 		{list{5}, list{5}},
 		{list{5, 0, 0}, list{5}},
 		{list{0, 7}, list{0, 7}},
 		{list{0, 7, 0, 9, 0}, list{0, 7, 0, 9}},
 		{list{top, top, 0}, list{top, top}},
 	} {
-		wantList(t, "Least", nat.Least(c.a), c.want)
+		check.Words(t, "Least", nat.Least(c.a), c.want)
 	}
 }
 
@@ -79,8 +52,8 @@ func TestCmp(t *testing.T) {
 		{list{high}, list{high - 1}, 1}, // words have no sign
 		{list{top}, list{1}, 1},
 	} {
-		wantInt(t, "Cmp", nat.Cmp(c.a, c.b), c.want)
-		wantInt(t, "Cmp, turned round", nat.Cmp(c.b, c.a), -c.want)
+		check.Same(t, "Cmp", nat.Cmp(c.a, c.b), c.want)
+		check.Same(t, "Cmp, turned round", nat.Cmp(c.b, c.a), -c.want)
 	}
 }
 
@@ -97,10 +70,10 @@ func TestAdd(t *testing.T) {
 		{list{1, 2}, list{3, 4, 5}, list{4, 6, 5}},
 		{list{top, top}, list{top, top}, list{top - 1, top, 1}},
 		{list{top, 0, 0, 0}, list{0, 0}, list{top}},
-		{repeat(top, 1000), list{1}, append(repeat(0, 1000), 1)},
+		{check.Repeat(top, 1000), list{1}, append(check.Repeat(0, 1000), 1)},
 	} {
-		wantList(t, "Add", nat.Add(c.a, c.b), c.want)
-		wantList(t, "Add, turned round", nat.Add(c.b, c.a), c.want)
+		check.Words(t, "Add", nat.Add(c.a, c.b), c.want)
+		check.Words(t, "Add, turned round", nat.Add(c.b, c.a), c.want)
 	}
 }
 
@@ -117,16 +90,16 @@ func TestSub(t *testing.T) {
 		{list{3}, list{3, 0, 0}, nil, api.OK},
 		{list{7, 8, 9}, list{5, 8, 9}, list{2}, api.OK},
 		{list{0, 0, 1}, list{1, 0, 0}, list{top, top}, api.OK},
-		{append(repeat(0, 1000), 1), list{1}, repeat(top, 1000), api.OK},
-		{append(repeat(0, 1000), 2), list{1}, append(repeat(top, 1000), 1), api.OK},
+		{append(check.Repeat(0, 1000), 1), list{1}, check.Repeat(top, 1000), api.OK},
+		{append(check.Repeat(0, 1000), 2), list{1}, append(check.Repeat(top, 1000), 1), api.OK},
 		{list{1}, list{0, 1}, nil, api.ErrArg},
 		{nil, list{1}, nil, api.ErrArg},
 		{list{6, 0, 0}, list{7}, nil, api.ErrArg},
 		{list{top, 4}, list{0, 5}, nil, api.ErrArg},
 	} {
 		got, e := nat.Sub(c.a, c.b)
-		wantList(t, "Sub", got, c.want)
-		wantErrno(t, "Sub", e, c.e)
+		check.Words(t, "Sub", got, c.want)
+		check.Same(t, "Sub", e, c.e)
 	}
 }
 
@@ -142,8 +115,8 @@ func tryShifts(t *testing.T, call string, f func(list, int) (list, api.Errno), c
 	t.Helper()
 	for _, c := range cases {
 		got, e := f(c.a, c.n)
-		wantList(t, call, got, c.want)
-		wantErrno(t, call, e, c.e)
+		check.Words(t, call, got, c.want)
+		check.Same(t, call, e, c.e)
 	}
 }
 
@@ -160,8 +133,8 @@ func TestShl(t *testing.T) {
 		{list{3}, 63, list{high, 1}, api.OK},
 		{list{top, top, 0}, 1, list{top - 1, top, 1}, api.OK},
 		{list{5, 6, 0}, 128, list{0, 0, 5, 6}, api.OK},
-		{list{5}, api.MaxShift, append(repeat(0, api.MaxShift/64), 5), api.OK},
-		{list{top, 3, 0}, api.MaxShift - 1, append(repeat(0, api.MaxShift/64-1), high, top, 1), api.OK},
+		{list{5}, api.MaxShift, append(check.Repeat(0, api.MaxShift/64), 5), api.OK},
+		{list{top, 3, 0}, api.MaxShift - 1, append(check.Repeat(0, api.MaxShift/64-1), high, top, 1), api.OK},
 		{nil, api.MaxShift, nil, api.OK},
 		{nil, api.MaxShift + 1, nil, api.ErrLarge},
 		{list{5}, api.MaxShift + 1, nil, api.ErrLarge},
@@ -189,7 +162,7 @@ func TestShr(t *testing.T) {
 		{list{top, 3}, 65, list{1}, api.OK},
 		{list{1, 2, 3}, 4, list{2 << 60, 3 << 60}, api.OK},
 		{list{5}, api.MaxShift + 1, nil, api.OK},
-		{append(repeat(0, api.MaxShift/64+1), 5), api.MaxShift + 64, list{5}, api.OK},
+		{append(check.Repeat(0, api.MaxShift/64+1), 5), api.MaxShift + 64, list{5}, api.OK},
 		{list{5}, math.MaxInt, nil, api.OK},
 		{nil, math.MaxInt, nil, api.OK},
 		{list{5}, -1, nil, api.ErrArg},
@@ -244,10 +217,10 @@ func TestBitLenAndTwos(t *testing.T) {
 		{list{0, 4}, 67, 66},
 		{list{0, 4, 0}, 67, 66},
 		{list{0, 0, high, 1}, 193, 191},
-		{append(repeat(0, api.MaxShift/64), 1), api.MaxShift + 1, api.MaxShift},
+		{append(check.Repeat(0, api.MaxShift/64), 1), api.MaxShift + 1, api.MaxShift},
 	} {
-		wantInt(t, "BitLen", nat.BitLen(c.a), c.bits)
-		wantInt(t, "Twos", nat.Twos(c.a), c.twos)
+		check.Same(t, "BitLen", nat.BitLen(c.a), c.bits)
+		check.Same(t, "Twos", nat.Twos(c.a), c.twos)
 	}
 }
 
@@ -274,6 +247,6 @@ func TestBit(t *testing.T) {
 		{list{top, top}, math.MinInt, 0},
 		{list{top, top}, math.MaxInt, 0},
 	} {
-		wantInt(t, "Bit", nat.Bit(c.a, c.i), c.want)
+		check.Same(t, "Bit", nat.Bit(c.a, c.i), c.want)
 	}
 }

@@ -1,0 +1,59 @@
+package check_test
+
+import (
+	"testing"
+
+	"trellis/check"
+)
+
+// counter counts the faults that it is told.
+type counter struct{ faults int }
+
+func (c *counter) Helper() {}
+
+func (c *counter) Errorf(format string, args ...any) { c.faults++ }
+
+type list = []uint64
+
+func TestHoldingAgainst(t *testing.T) {
+	for _, c := range []struct {
+		name   string
+		tell   func(r check.Reporter)
+		faulty bool
+	}{
+		{"equal numbers", func(r check.Reporter) { check.Same(r, "", 3, 3) }, false},
+		{"other numbers", func(r check.Reporter) { check.Same(r, "", 3, 4) }, true},
+		{"equal lists", func(r check.Reporter) { check.Words(r, "", list{1, 2}, list{1, 2}) }, false},
+		{"no list and a list without words", func(r check.Reporter) { check.Words(r, "", list{}, nil) }, false},
+		{"a zero word more", func(r check.Reporter) { check.Words(r, "", list{1, 0}, list{1}) }, true},
+	} {
+		var r counter
+		c.tell(&r)
+		if (r.faults > 0) != c.faulty {
+			t.Errorf("%s: %d faults told", c.name, r.faults)
+		}
+	}
+}
+
+func TestMemory(t *testing.T) {
+	kept := list{1, 2, 3}
+	for _, c := range []struct {
+		name   string
+		call   func(a, b list) list
+		faulty bool
+	}{
+		{"a copy", func(a, b list) list { return append(list{}, a...) }, false},
+		{"nothing", func(a, b list) list { return nil }, false},
+		{"what was handed in", func(a, b list) list { return b }, true},
+		{"spare room of what was handed in", func(a, b list) list { return b[len(b):] }, true},
+		{"a changed argument", func(a, b list) list { a[0]++; return nil }, true},
+		{"changed spare room", func(a, b list) list { _ = append(a, 7); return nil }, true},
+		{"one answer for two calls", func(a, b list) list { return kept }, true},
+	} {
+		var r counter
+		check.Memory(&r, map[string]func(a, b list) list{c.name: c.call}, []list{{5}, {6, 7}})
+		if (r.faults > 0) != c.faulty {
+			t.Errorf("%s: %d faults told", c.name, r.faults)
+		}
+	}
+}
