@@ -57,3 +57,27 @@ func TestMemory(t *testing.T) {
 		}
 	}
 }
+
+func TestApart(t *testing.T) {
+	whole := list{1, 2, 3, 4}
+	for _, c := range []struct {
+		name   string
+		answer []list
+		faulty bool
+	}{
+		{"no list", nil, false},
+		{"one list", []list{whole}, false},
+		{"lists of their own", []list{{1, 2}, {1, 2}, nil}, false},
+		{"pieces with their ends fixed", []list{whole[:2:2], whole[2:]}, false},
+		{"one list twice", []list{whole, whole}, true},
+		{"a list in the spare room of another", []list{{7}, whole[:2], whole[2:]}, true},
+		{"spare room of two", []list{whole[:0:2], whole[1:1]}, true},
+	} {
+		var r counter
+		check.Apart(&r, c.name, c.answer...)
+		if (r.faults > 0) != c.faulty {
+			t.Errorf("%s: %d faults told", c.name, r.faults)
+		}
+	}
+	check.Words(t, "what was held against R4", whole, list{1, 2, 3, 4})
+}

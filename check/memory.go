@@ -64,3 +64,21 @@ func scribble(a []uint64) {
 		a[i] = ^a[i]
 	}
 }
+
+// Apart holds the lists of one answer against R4: no two of them share memory, spare room included. It leaves them as they were.
+func Apart(t Reporter, call string, answer ...[]uint64) {
+	t.Helper()
+	var before [][]uint64
+	for _, a := range answer {
+		before = append(before, slices.Clone(a[:cap(a)]))
+	}
+	for i, a := range answer {
+		scribble(a)
+		for j, b := range answer {
+			if j != i && !slices.Equal(b[:cap(b)], before[j]) {
+				t.Errorf("%s: lists %d and %d of the answer share memory", call, i, j)
+			}
+		}
+		scribble(a)
+	}
+}
