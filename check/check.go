@@ -1,7 +1,11 @@
 // Package check is what the tests of the layers share. No layer calls it.
 package check
 
-import "slices"
+import (
+	"slices"
+
+	"trellis/api"
+)
 
 // Reporter is what a test is told faults by: *testing.T is one.
 type Reporter interface {
@@ -28,6 +32,14 @@ func Words(t Reporter, call string, got, want []uint64) {
 	t.Helper()
 	if !slices.Equal(got, want) {
 		t.Errorf("%s: %#x, want %#x", call, got, want)
+	}
+}
+
+// Int holds the integer that a call answers against the one that it must answer, sign and words: so the least form is asked for too.
+func Int(t Reporter, call string, got, want api.Int) {
+	t.Helper()
+	if got.Neg != want.Neg || !slices.Equal(got.Mag, want.Mag) {
+		t.Errorf("%s: %v, want %v", call, got, want)
 	}
 }
 

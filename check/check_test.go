@@ -3,6 +3,7 @@ package check_test
 import (
 	"testing"
 
+	"trellis/api"
 	"trellis/check"
 )
 
@@ -26,6 +27,14 @@ func TestHoldingAgainst(t *testing.T) {
 		{"equal lists", func(r check.Reporter) { check.Words(r, "", list{1, 2}, list{1, 2}) }, false},
 		{"no list and a list without words", func(r check.Reporter) { check.Words(r, "", list{}, nil) }, false},
 		{"a zero word more", func(r check.Reporter) { check.Words(r, "", list{1, 0}, list{1}) }, true},
+		{"equal integers", func(r check.Reporter) {
+			check.Int(r, "", api.Int{Neg: true, Mag: list{1, 2}}, api.Int{Neg: true, Mag: list{1, 2}})
+		}, false},
+		{"two zeros", func(r check.Reporter) { check.Int(r, "", api.Int{Mag: list{}}, api.Int{}) }, false},
+		{"another sign", func(r check.Reporter) { check.Int(r, "", api.Int{Neg: true, Mag: list{1}}, api.Int{Mag: list{1}}) }, true},
+		{"a zero with a sign", func(r check.Reporter) { check.Int(r, "", api.Int{Neg: true}, api.Int{}) }, true},
+		{"another size", func(r check.Reporter) { check.Int(r, "", api.Int{Mag: list{1, 2}}, api.Int{Mag: list{1, 3}}) }, true},
+		{"an integer with a zero word more", func(r check.Reporter) { check.Int(r, "", api.Int{Mag: list{1, 0}}, api.Int{Mag: list{1}}) }, true},
 	} {
 		var r counter
 		c.tell(&r)
@@ -52,6 +61,31 @@ func TestMemory(t *testing.T) {
 	} {
 		var r counter
 		check.Memory(&r, map[string]func(a, b list) list{c.name: c.call}, []list{{5}, {6, 7}})
+		if (r.faults > 0) != c.faulty {
+			t.Errorf("%s: %d faults told", c.name, r.faults)
+		}
+	}
+}
+
+func TestIntMemory(t *testing.T) {
+	for _, c := range []struct {
+		name   string
+		call   func(a, b api.Int) api.Int
+		faulty bool
+	}{
+		{"a copy", func(a, b api.Int) api.Int { return api.Int{Mag: append(list{}, a.Mag...)} }, false},
+		{"nothing", func(a, b api.Int) api.Int { return api.Int{} }, false},
+		{"what was handed in", func(a, b api.Int) api.Int { return b }, true},
+		{"what was handed in, for one pair of signs alone", func(a, b api.Int) api.Int {
+			if a.Neg && !b.Neg {
+				return a
+			}
+			return api.Int{}
+		}, true},
+		{"a changed argument", func(a, b api.Int) api.Int { b.Mag[0]++; return api.Int{} }, true},
+	} {
+		var r counter
+		check.IntMemory(&r, map[string]func(a, b api.Int) api.Int{c.name: c.call}, []list{{5}, {6, 7}})
 		if (r.faults > 0) != c.faulty {
 			t.Errorf("%s: %d faults told", c.name, r.faults)
 		}

@@ -3,6 +3,8 @@ package check
 import (
 	"maps"
 	"slices"
+
+	"trellis/api"
 )
 
 // Memory holds calls that answer a list of words, by their names, against R4 at each pair of the lists:
@@ -14,6 +16,22 @@ func Memory(t Reporter, calls map[string]func(a, b []uint64) []uint64, lists [][
 			for _, y := range lists {
 				memoryOf(t, name, calls[name], x, y)
 			}
+		}
+	}
+}
+
+// IntMemory holds calls that answer an integer against R4 as Memory does those that answer a list: at each pair of the lists as sizes, and each pair of signs.
+func IntMemory(t Reporter, calls map[string]func(a, b api.Int) api.Int, sizes [][]uint64) {
+	t.Helper()
+	for _, negA := range []bool{false, true} {
+		for _, negB := range []bool{false, true} {
+			ofSizes := map[string]func(a, b []uint64) []uint64{}
+			for name, call := range calls {
+				ofSizes[name] = func(a, b []uint64) []uint64 {
+					return call(api.Int{Neg: negA, Mag: a}, api.Int{Neg: negB, Mag: b}).Mag
+				}
+			}
+			Memory(t, ofSizes, sizes)
 		}
 	}
 }
