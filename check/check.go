@@ -59,6 +59,11 @@ func Samples() [][]uint64 {
 	return all
 }
 
+// ShortSamples are those samples that have at most so many words.
+func ShortSamples(words int) [][]uint64 {
+	return slices.DeleteFunc(Samples(), func(a []uint64) bool { return len(a) > words })
+}
+
 // Mixed is a list of n words without order, other ones for each seed, with zero and greatest words between.
 func Mixed(n int, seed uint64) []uint64 {
 	a := make([]uint64, n)

@@ -1,6 +1,8 @@
 package check_test
 
 import (
+	"math"
+	"slices"
 	"testing"
 
 	"trellis/api"
@@ -34,6 +36,12 @@ func TestHoldingAgainst(t *testing.T) {
 		{"another sign", func(r check.Reporter) { check.Int(r, "", api.Int{Neg: true, Mag: list{1}}, api.Int{Mag: list{1}}) }, true},
 		{"a zero with a sign", func(r check.Reporter) { check.Int(r, "", api.Int{Neg: true}, api.Int{}) }, true},
 		{"another size", func(r check.Reporter) { check.Int(r, "", api.Int{Mag: list{1, 2}}, api.Int{Mag: list{1, 3}}) }, true},
+		{"equal lists of integers", func(r check.Reporter) { check.Ints(r, "", check.Nums(1, 0, -2), check.Nums(1, 0, -2)) }, false},
+		{"no list and a list without integers", func(r check.Reporter) { check.Ints(r, "", nil, check.Nums()) }, false},
+		{"a list with an integer more", func(r check.Reporter) { check.Ints(r, "", check.Nums(1, 0), check.Nums(1)) }, true},
+		{"lists with another sign", func(r check.Reporter) { check.Ints(r, "", check.Nums(1, 2), check.Nums(1, -2)) }, true},
+		{"lists with another size", func(r check.Reporter) { check.Ints(r, "", check.Nums(1, 2), check.Nums(1, 3)) }, true},
+		{"a list with a sign beside 0", func(r check.Reporter) { check.Ints(r, "", []api.Int{check.Minus()}, check.Nums(0)) }, true},
 		{"an integer with a zero word more", func(r check.Reporter) { check.Int(r, "", api.Int{Mag: list{1, 0}}, api.Int{Mag: list{1}}) }, true},
 	} {
 		var r counter
@@ -89,6 +97,58 @@ func TestIntMemory(t *testing.T) {
 		if (r.faults > 0) != c.faulty {
 			t.Errorf("%s: %d faults told", c.name, r.faults)
 		}
+	}
+}
+
+func TestListMemory(t *testing.T) {
+	kept := check.Nums(1, 2)
+	copied := func(list []api.Int) []api.Int {
+		var all []api.Int
+		for _, n := range list {
+			all = append(all, api.Int{Neg: n.Neg, Mag: append([]uint64{}, n.Mag...)})
+		}
+		return all
+	}
+	for _, c := range []struct {
+		name   string
+		call   func(list []api.Int) []api.Int
+		faulty bool
+	}{
+		{"a copy", copied, false},
+		{"nothing", func(list []api.Int) []api.Int { return nil }, false},
+		{"what was handed in", func(list []api.Int) []api.Int { return list }, true},
+		{"spare room of what was handed in", func(list []api.Int) []api.Int { return list[len(list):] }, true},
+		{"a list of its own with the words handed in", func(list []api.Int) []api.Int { return append([]api.Int{}, list...) }, true},
+		{"a changed integer", func(list []api.Int) []api.Int { list[0].Mag[0]++; return nil }, true},
+		{"a changed place", func(list []api.Int) []api.Int { list[0] = check.Plus(5); return nil }, true},
+		{"a changed sign", func(list []api.Int) []api.Int { list[1].Neg = true; return nil }, true},
+		{"changed spare room", func(list []api.Int) []api.Int { _ = append(list, check.Num(7)); return nil }, true},
+		{"changed spare room of an integer", func(list []api.Int) []api.Int { _ = append(list[1].Mag, 7); return nil }, true},
+		{"one answer for two calls", func(list []api.Int) []api.Int { return kept }, true},
+		{"two copies", func(list []api.Int) []api.Int { return append(copied(list), copied(list)...) }, false},
+		{"two integers of one memory", func(list []api.Int) []api.Int {
+			all := copied(list)
+			return append(all, all...)
+		}, true},
+	} {
+		var r counter
+		check.ListMemory(&r, map[string]func(list []api.Int) []api.Int{c.name: c.call}, [][]api.Int{{check.Minus(6, 0), check.Plus(7)}})
+		if (r.faults > 0) != c.faulty {
+			t.Errorf("%s: %d faults told", c.name, r.faults)
+		}
+	}
+}
+
+func TestIntegers(t *testing.T) {
+	check.Int(t, "Num(0)", check.Num(0), api.Int{})
+	check.Int(t, "Num(7)", check.Num(7), api.Int{Mag: list{7}})
+	check.Int(t, "Num(-7)", check.Num(-7), api.Int{Neg: true, Mag: list{7}})
+	check.Int(t, "Num of the least int", check.Num(math.MinInt), api.Int{Neg: true, Mag: list{check.High}})
+	check.Ints(t, "Nums(0, -2)", check.Nums(0, -2), []api.Int{{}, {Neg: true, Mag: list{2}}})
+	check.Ints(t, "Signs", check.Signs([]list{{2, 0}}), []api.Int{{Mag: list{2, 0}}, {Neg: true, Mag: list{2, 0}}})
+	check.Same(t, "how many samples have at most two words", len(check.ShortSamples(2)), 1+5+25)
+	for _, zero := range check.Zeros() {
+		check.Same(t, "words of a zero that are not 0", slices.ContainsFunc(zero.Mag, func(w uint64) bool { return w != 0 }), false)
 	}
 }
 

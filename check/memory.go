@@ -36,6 +36,97 @@ func IntMemory(t Reporter, calls map[string]func(a, b api.Int) api.Int, sizes []
 	}
 }
 
+// ListMemory holds calls that answer a list of integers, by their names, against R4 at each of the lists, as Memory does those that answer words.
+func ListMemory(t Reporter, calls map[string]func(list []api.Int) []api.Int, lists [][]api.Int) {
+	t.Helper()
+	for _, name := range slices.Sorted(maps.Keys(calls)) {
+		for _, x := range lists {
+			listMemoryOf(t, name, calls[name], x)
+		}
+	}
+}
+
+func listMemoryOf(t Reporter, name string, call func(list []api.Int) []api.Int, x []api.Int) {
+	t.Helper()
+	a := roomyInts(x)
+	first := call(a)
+	second := call(a)
+	want := roomyInts(first)
+	if !areRoomyInts(a, x) {
+		t.Errorf("%s of %v changed what was handed in", name, x)
+	}
+	var sizes [][]uint64
+	for _, n := range first {
+		sizes = append(sizes, n.Mag)
+	}
+	Apart(t, name, sizes...)
+	scribbleInts(first)
+	if !areRoomyInts(a, x) {
+		t.Errorf("%s of %v shares memory with what was handed in", name, x)
+	}
+	if !sameInts(second, want) {
+		t.Errorf("%s of %v: two answers share memory, or differ", name, x)
+	}
+	scribbleInts(a)
+	if !sameInts(second, want) {
+		t.Errorf("%s of %v hangs on what was handed in", name, x)
+	}
+}
+
+// roomyInts is a copy of a, all its integers and itself with spare room behind them.
+func roomyInts(a []api.Int) []api.Int {
+	var all []api.Int
+	for _, n := range slices.Concat(a, roomOfInts()) {
+		all = append(all, api.Int{Neg: n.Neg, Mag: roomy(n.Mag)})
+	}
+	return all[:len(a)]
+}
+
+// areRoomyInts says if a is still the roomy copy of x.
+func areRoomyInts(a, x []api.Int) bool {
+	whole := slices.Concat(x, roomOfInts())
+	return slices.EqualFunc(a[:len(whole)], whole, func(n, m api.Int) bool {
+		return n.Neg == m.Neg && isRoomy(n.Mag, m.Mag)
+	})
+}
+
+// roomOfInts is what stands in the spare room of a roomy list of integers.
+func roomOfInts() []api.Int {
+	return []api.Int{Plus(94), Minus(95, 96)}
+}
+
+// scribbleInts writes over a list of integers and over the integers themselves, spare room included.
+func scribbleInts(a []api.Int) {
+	a = a[:cap(a)]
+	for i, n := range a {
+		scribble(n.Mag)
+		a[i] = api.Int{Neg: !n.Neg, Mag: []uint64{97}}
+	}
+}
+
+// Alone is the integer that a call answers beside its errno.
+func Alone(call func(a, b api.Int) (api.Int, api.Errno)) func(a, b api.Int) api.Int {
+	return func(a, b api.Int) api.Int {
+		got, _ := call(a, b)
+		return got
+	}
+}
+
+// First and Second are one of the two integers that a call answers beside its errno.
+func First(call func(a, b api.Int) (api.Int, api.Int, api.Errno)) func(a, b api.Int) api.Int {
+	return func(a, b api.Int) api.Int {
+		got, _, _ := call(a, b)
+		return got
+	}
+}
+
+func Second(call func(a, b api.Int) (api.Int, api.Int, api.Errno)) func(a, b api.Int) api.Int {
+	return func(a, b api.Int) api.Int {
+		_, got, _ := call(a, b)
+		return got
+	}
+}
+
 func memoryOf(t Reporter, name string, call func(a, b []uint64) []uint64, x, y []uint64) {
 	t.Helper()
 	a, b := roomy(x), roomy(y)
@@ -72,7 +163,8 @@ func roomy(a []uint64) []uint64 {
 // isRoomy says if a is still the roomy copy of x.
 func isRoomy(a, x []uint64) bool {
 	whole := slices.Concat(x, room())
-	return slices.Equal(a[:len(whole)], whole)
+	// A list that has come in its place may have no such room.
+	return len(a) == len(x) && cap(a) >= len(whole) && slices.Equal(a[:len(whole)], whole)
 }
 
 // scribble writes over a list, spare room included.

@@ -9,34 +9,9 @@ import (
 	"trellis/zint"
 )
 
-// signs are the integers of each size with each sign.
-func signs(sizes []list) []api.Int {
-	var all []api.Int
-	for _, size := range sizes {
-		all = append(all, api.Int{Mag: size}, api.Int{Neg: true, Mag: size})
-	}
-	return all
-}
-
-// sizes are those of check's samples that have at most so many words.
-func sizes(words int) []list {
-	var some []list
-	for _, a := range check.Samples() {
-		if len(a) <= words {
-			some = append(some, a)
-		}
-	}
-	return some
-}
-
-// integers are of many sizes, in least form or not, with each sign.
-func integers() []api.Int {
-	return signs(append(sizes(2), list{0, 0, 1}, list{top, top, top}, list{1, 0, high, 0}, list{top, 0, top}, check.Mixed(5, 1), check.Mixed(7, 2), append(check.Mixed(9, 3), 0, 0)))
-}
-
 // P5.1, P5.3 and P5.4 for one number.
 func TestOnesByComplement(t *testing.T) {
-	for _, a := range integers() {
+	for _, a := range check.Integers() {
 		x := complementOf(a)
 		check.Int(t, fmt.Sprintf("Least(%v)", a), zint.Least(a), x.integer())
 		check.Same(t, fmt.Sprintf("Sign(%v)", a), zint.Sign(a), x.sign())
@@ -51,9 +26,9 @@ func TestOnesByComplement(t *testing.T) {
 
 // P5.3, P5.4 and P5.5 for two numbers.
 func TestPairsByComplement(t *testing.T) {
-	for _, a := range integers() {
+	for _, a := range check.Integers() {
 		x := complementOf(a)
-		for _, b := range integers() {
+		for _, b := range check.Integers() {
 			y := complementOf(b)
 			pair := fmt.Sprintf("(%v, %v)", a, b)
 			check.Same(t, "Cmp"+pair, zint.Cmp(a, b), x.minus(y).sign())
@@ -69,7 +44,7 @@ func TestPairsByComplement(t *testing.T) {
 
 // P5.4 and P5.5 for three numbers.
 func TestTriplesByComplement(t *testing.T) {
-	some := signs(append(sizes(1), list{0, 1}, list{top, top}, list{1, 0, 1, 0}))
+	some := signs(append(check.ShortSamples(1), list{0, 1}, list{top, top}, list{1, 0, 1, 0}))
 	for _, a := range some {
 		x := complementOf(a)
 		for _, b := range some {
@@ -90,7 +65,7 @@ func TestTriplesByComplement(t *testing.T) {
 
 // P5.5 for lists of all of them.
 func TestListsByComplement(t *testing.T) {
-	all := integers()
+	all := check.Integers()
 	turned := append(all[7:len(all):len(all)], all[:7]...)
 	var sum, dot complement
 	for i, a := range all {
@@ -105,7 +80,7 @@ func TestListsByComplement(t *testing.T) {
 
 // P5.6.
 func TestPowersByComplement(t *testing.T) {
-	for _, a := range signs(sizes(2)) {
+	for _, a := range signs(check.ShortSamples(2)) {
 		x := complementOf(a)
 		power := complement{1}
 		for n := range 14 {
@@ -119,8 +94,8 @@ func TestPowersByComplement(t *testing.T) {
 
 // P5.7 to P5.11 for long numbers and short ones.
 func TestDivisionLaws(t *testing.T) {
-	for _, a := range integers() {
-		for _, b := range integers() {
+	for _, a := range check.Integers() {
+		for _, b := range check.Integers() {
 			if zint.Sign(b) != 0 {
 				holdDivisions(t, a, b)
 				holdResidues(t, a, b)

@@ -15,33 +15,10 @@ func memorySizes() []list {
 	return []list{nil, {0, 0}, {1}, {5}, {2, 0}, {1, 2, 0}, {top, top}, {0, 0, 1}, append(check.Mixed(9, 5), 0, 0)}
 }
 
-// first and second are one of the two integers that a division answers.
-func first(divide func(a, b api.Int) (api.Int, api.Int, api.Errno)) func(a, b api.Int) api.Int {
-	return func(a, b api.Int) api.Int {
-		got, _, _ := divide(a, b)
-		return got
-	}
-}
-
-func second(divide func(a, b api.Int) (api.Int, api.Int, api.Errno)) func(a, b api.Int) api.Int {
-	return func(a, b api.Int) api.Int {
-		_, got, _ := divide(a, b)
-		return got
-	}
-}
-
-// alone is the integer that a call answers beside its errno.
-func alone(call func(a, b api.Int) (api.Int, api.Errno)) func(a, b api.Int) api.Int {
-	return func(a, b api.Int) api.Int {
-		got, _ := call(a, b)
-		return got
-	}
-}
-
 // intCalls are the calls that answer an integer, those among them whose answer is just what was handed in, where sharing would tempt most.
 func intCalls() map[string]func(a, b api.Int) api.Int {
 	pow := func(n int) func(a, b api.Int) api.Int {
-		return alone(func(a, b api.Int) (api.Int, api.Errno) { return zint.Pow(a, n) })
+		return check.Alone(func(a, b api.Int) (api.Int, api.Errno) { return zint.Pow(a, n) })
 	}
 	dot := func(a, b []api.Int) api.Int {
 		got, _ := zint.Dot(a, b)
@@ -78,13 +55,13 @@ func intCalls() map[string]func(a, b api.Int) api.Int {
 		"Pow(a, 0)":        pow(0),
 		"Pow(a, 1)":        pow(1),
 		"Pow(a, 5)":        pow(5),
-		"Exact(a, b)":      alone(zint.Exact),
-		"Exact(a, 1)":      func(a, b api.Int) api.Int { return alone(zint.Exact)(a, plus(1)) },
-		"Exact(a, a)":      func(a, b api.Int) api.Int { return alone(zint.Exact)(a, a) },
-		"Mod(a, b)":        alone(zint.Mod),
-		"Sym(a, b)":        alone(zint.Sym),
-		"Mod(a, much)":     func(a, b api.Int) api.Int { return alone(zint.Mod)(a, plus(check.Repeat(top, 12)...)) },
-		"Sym(a, much)":     func(a, b api.Int) api.Int { return alone(zint.Sym)(a, plus(check.Repeat(top, 12)...)) },
+		"Exact(a, b)":      check.Alone(zint.Exact),
+		"Exact(a, 1)":      func(a, b api.Int) api.Int { return check.Alone(zint.Exact)(a, plus(1)) },
+		"Exact(a, a)":      func(a, b api.Int) api.Int { return check.Alone(zint.Exact)(a, a) },
+		"Mod(a, b)":        check.Alone(zint.Mod),
+		"Sym(a, b)":        check.Alone(zint.Sym),
+		"Mod(a, much)":     func(a, b api.Int) api.Int { return check.Alone(zint.Mod)(a, plus(check.Repeat(top, 12)...)) },
+		"Sym(a, much)":     func(a, b api.Int) api.Int { return check.Alone(zint.Sym)(a, plus(check.Repeat(top, 12)...)) },
 		"Read(Text(a))": func(a, b api.Int) api.Int {
 			got, _ := zint.Read(zint.Text(a))
 			return got
@@ -95,10 +72,10 @@ func intCalls() map[string]func(a, b api.Int) api.Int {
 		},
 	}
 	for name, divide := range divisions() {
-		calls[name+", quotient"] = first(divide)
-		calls[name+", rest"] = second(divide)
-		calls[name+" by 1, quotient"] = func(a, b api.Int) api.Int { return first(divide)(a, plus(1)) }
-		calls[name+" by much, rest"] = func(a, b api.Int) api.Int { return second(divide)(a, plus(check.Repeat(top, 12)...)) }
+		calls[name+", quotient"] = check.First(divide)
+		calls[name+", rest"] = check.Second(divide)
+		calls[name+" by 1, quotient"] = func(a, b api.Int) api.Int { return check.First(divide)(a, plus(1)) }
+		calls[name+" by much, rest"] = func(a, b api.Int) api.Int { return check.Second(divide)(a, plus(check.Repeat(top, 12)...)) }
 	}
 	return calls
 }

@@ -103,7 +103,7 @@ func TestReadBytes(t *testing.T) {
 
 // P5.12, P5.13 and P13: there and back, for numbers of any length.
 func TestThereAndBack(t *testing.T) {
-	for _, a := range integers() {
+	for _, a := range check.Integers() {
 		text := zint.Text(a)
 		back, e := zint.Read(text)
 		check.Int(t, fmt.Sprintf("Read(%q)", text), back, zint.Least(a))

@@ -19,35 +19,13 @@ const (
 
 type list = []uint64
 
-// plus and minus are integers by their words, just as they are handed in, in least form or not.
-func plus(words ...uint64) api.Int { return api.Int{Mag: words} }
-
-func minus(words ...uint64) api.Int { return api.Int{Neg: true, Mag: words} }
-
-// num is v in least form.
-func num(v int) api.Int {
-	switch {
-	case v < 0:
-		return minus(uint64(-v))
-	case v == 0:
-		return plus()
-	default:
-		return plus(uint64(v))
-	}
-}
-
-func nums(values ...int) []api.Int {
-	all := make([]api.Int, len(values))
-	for i, v := range values {
-		all[i] = num(v)
-	}
-	return all
-}
-
-// zeros are forms of 0.
-func zeros() []api.Int {
-	return []api.Int{plus(), minus(), {Mag: nil}, {Neg: true, Mag: nil}, plus(0), minus(0), plus(0, 0, 0), minus(0, 0, 0)}
-}
+// The integers of the tests.
+var (
+	num, nums   = check.Num, check.Nums
+	plus, minus = check.Plus, check.Minus
+	zeros       = check.Zeros
+	signs       = check.Signs
+)
 
 // P5.1.
 func TestLeast(t *testing.T) {
