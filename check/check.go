@@ -38,7 +38,7 @@ func Words(t Reporter, call string, got, want []uint64) {
 // Int holds the integer that a call answers against the one that it must answer, sign and words: so the least form is asked for too.
 func Int(t Reporter, call string, got, want api.Int) {
 	t.Helper()
-	if got.Neg != want.Neg || !slices.Equal(got.Mag, want.Mag) {
+	if !sameInt(got, want) {
 		t.Errorf("%s: %v, want %v", call, got, want)
 	}
 }

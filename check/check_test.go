@@ -42,6 +42,9 @@ func TestHoldingAgainst(t *testing.T) {
 		{"lists with another sign", func(r check.Reporter) { check.Ints(r, "", check.Nums(1, 2), check.Nums(1, -2)) }, true},
 		{"lists with another size", func(r check.Reporter) { check.Ints(r, "", check.Nums(1, 2), check.Nums(1, 3)) }, true},
 		{"a list with a sign beside 0", func(r check.Reporter) { check.Ints(r, "", []api.Int{check.Minus()}, check.Nums(0)) }, true},
+		{"equal fractions", func(r check.Reporter) { check.Frac(r, "", check.Over(-1, 2), check.Over(-1, 2)) }, false},
+		{"a fraction with another numerator", func(r check.Reporter) { check.Frac(r, "", check.Over(-1, 2), check.Over(1, 2)) }, true},
+		{"a fraction with another denominator", func(r check.Reporter) { check.Frac(r, "", check.Over(0, 2), check.Over(0, 1)) }, true},
 		{"an integer with a zero word more", func(r check.Reporter) { check.Int(r, "", api.Int{Mag: list{1, 0}}, api.Int{Mag: list{1}}) }, true},
 	} {
 		var r counter
@@ -145,6 +148,7 @@ func TestIntegers(t *testing.T) {
 	check.Int(t, "Num(-7)", check.Num(-7), api.Int{Neg: true, Mag: list{7}})
 	check.Int(t, "Num of the least int", check.Num(math.MinInt), api.Int{Neg: true, Mag: list{check.High}})
 	check.Ints(t, "Nums(0, -2)", check.Nums(0, -2), []api.Int{{}, {Neg: true, Mag: list{2}}})
+	check.Frac(t, "Over(4, -6)", check.Over(4, -6), api.Frac{Num: api.Int{Mag: list{4}}, Den: api.Int{Neg: true, Mag: list{6}}})
 	check.Ints(t, "Signs", check.Signs([]list{{2, 0}}), []api.Int{{Mag: list{2, 0}}, {Neg: true, Mag: list{2, 0}}})
 	check.Same(t, "how many samples have at most two words", len(check.ShortSamples(2)), 1+5+25)
 	for _, zero := range check.Zeros() {

@@ -32,6 +32,9 @@ func Nums(values ...int) []api.Int {
 	return all
 }
 
+// Over is n divided by d, just as it is handed in, in lowest terms or not.
+func Over(n, d int) api.Frac { return api.Frac{Num: Num(n), Den: Num(d)} }
+
 // Zeros are forms of 0.
 func Zeros() []api.Int {
 	return []api.Int{Plus(), Minus(), {Mag: nil}, {Neg: true, Mag: nil}, Plus(0), Minus(0), Plus(0, 0, 0), Minus(0, 0, 0)}
@@ -60,8 +63,18 @@ func Ints(t Reporter, call string, got, want []api.Int) {
 	}
 }
 
+// Frac holds the fraction that a call answers against the one that it must answer, number by number: so lowest terms are asked for too.
+func Frac(t Reporter, call string, got, want api.Frac) {
+	t.Helper()
+	if !sameInt(got.Num, want.Num) || !sameInt(got.Den, want.Den) {
+		t.Errorf("%s: %v, want %v", call, got, want)
+	}
+}
+
 func sameInts(a, b []api.Int) bool {
-	return slices.EqualFunc(a, b, func(x, y api.Int) bool {
-		return x.Neg == y.Neg && slices.Equal(x.Mag, y.Mag)
-	})
+	return slices.EqualFunc(a, b, sameInt)
+}
+
+func sameInt(a, b api.Int) bool {
+	return a.Neg == b.Neg && slices.Equal(a.Mag, b.Mag)
 }
