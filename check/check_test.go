@@ -45,6 +45,17 @@ func TestHoldingAgainst(t *testing.T) {
 		{"equal fractions", func(r check.Reporter) { check.Frac(r, "", check.Over(-1, 2), check.Over(-1, 2)) }, false},
 		{"a fraction with another numerator", func(r check.Reporter) { check.Frac(r, "", check.Over(-1, 2), check.Over(1, 2)) }, true},
 		{"a fraction with another denominator", func(r check.Reporter) { check.Frac(r, "", check.Over(0, 2), check.Over(0, 1)) }, true},
+		{"equal matrices", func(r check.Reporter) { check.Mat(r, "", check.Matrix("1 -2; 0 4"), check.Matrix("1 -2; 0 4")) }, false},
+		{"matrices without entries", func(r check.Reporter) { check.Mat(r, "", api.Mat{Rows: 2, At: []api.Int{}}, api.Mat{Rows: 2}) }, false},
+		{"a matrix with other rows", func(r check.Reporter) { check.Mat(r, "", api.Mat{Rows: 2}, api.Mat{Rows: 3}) }, true},
+		{"a matrix with other columns", func(r check.Reporter) { check.Mat(r, "", api.Mat{Cols: 2}, api.Mat{Cols: 3}) }, true},
+		{"a matrix with another entry", func(r check.Reporter) { check.Mat(r, "", check.Matrix("1 2; 3 4"), check.Matrix("1 2; 3 5")) }, true},
+		{"a matrix with an entry more", func(r check.Reporter) {
+			check.Mat(r, "", api.Mat{Rows: 1, Cols: 1, At: check.Nums(1, 2)}, check.Matrix("1"))
+		}, true},
+		{"a matrix with a sign beside 0", func(r check.Reporter) {
+			check.Mat(r, "", api.Mat{Rows: 1, Cols: 1, At: []api.Int{check.Minus()}}, check.Matrix("0"))
+		}, true},
 		{"an integer with a zero word more", func(r check.Reporter) { check.Int(r, "", api.Int{Mag: list{1, 0}}, api.Int{Mag: list{1}}) }, true},
 	} {
 		var r counter
@@ -140,6 +151,47 @@ func TestListMemory(t *testing.T) {
 			t.Errorf("%s: %d faults told", c.name, r.faults)
 		}
 	}
+}
+
+func TestMatMemory(t *testing.T) {
+	for _, c := range []struct {
+		name   string
+		call   func(a, b api.Mat) []api.Int
+		faulty bool
+	}{
+		{"nothing", func(a, b api.Mat) []api.Int { return nil }, false},
+		{"numbers of its own", func(a, b api.Mat) []api.Int { return check.Nums(a.Rows, b.Cols, len(a.At)) }, false},
+		{"the first matrix", func(a, b api.Mat) []api.Int { return a.At }, true},
+		{"the second matrix", func(a, b api.Mat) []api.Int { return b.At }, true},
+		{"the words of an entry", func(a, b api.Mat) []api.Int { return []api.Int{b.At[0]} }, true},
+		{"a changed entry", func(a, b api.Mat) []api.Int { b.At[1] = check.Num(5); return nil }, true},
+		{"a changed word", func(a, b api.Mat) []api.Int { a.At[0].Mag[0]++; return nil }, true},
+		{"spare room of the first matrix", func(a, b api.Mat) []api.Int { _ = append(a.At, check.Num(7)); return nil }, true},
+		{"spare room of the second matrix", func(a, b api.Mat) []api.Int { _ = append(b.At, check.Num(7)); return nil }, true},
+		{"for one pair alone", func(a, b api.Mat) []api.Int {
+			if a.Rows == 1 && b.Rows == 2 {
+				return a.At
+			}
+			return nil
+		}, true},
+	} {
+		var r counter
+		check.MatMemory(&r, map[string]func(a, b api.Mat) []api.Int{c.name: c.call}, []api.Mat{check.Matrix("1 2"), check.Matrix("3; 4")})
+		if (r.faults > 0) != c.faulty {
+			t.Errorf("%s: %d faults told", c.name, r.faults)
+		}
+	}
+}
+
+func TestMatrices(t *testing.T) {
+	check.Mat(t, "1 -2 3; 4 5 0", check.Matrix("1 -2 3; 4 5 0"), api.Mat{Rows: 2, Cols: 3, At: check.Nums(1, -2, 3, 4, 5, 0)})
+	check.Mat(t, "7", check.Matrix("7"), api.Mat{Rows: 1, Cols: 1, At: check.Nums(7)})
+	check.Mat(t, "0x3", check.Matrix("0x3"), api.Mat{Cols: 3})
+	check.Mat(t, "12x0", check.Matrix("12x0"), api.Mat{Rows: 12})
+	check.Ints(t, "Row", check.Row(" 1 -2  0 "), check.Nums(1, -2, 0))
+	check.Ints(t, "Row of nothing", check.Row(""), nil)
+	check.Mat(t, "Filled", check.Filled(2, 2, check.Nums(1, 2, 3)), check.Matrix("1 2; 3 1"))
+	check.Mat(t, "Filled with nothing", check.Filled(0, 2, nil), check.Matrix("0x2"))
 }
 
 func TestIntegers(t *testing.T) {
