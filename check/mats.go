@@ -1,6 +1,8 @@
 package check
 
 import (
+	"math"
+	"math/bits"
 	"slices"
 	"strconv"
 	"strings"
@@ -47,6 +49,22 @@ func Filled(rows, cols int, list []api.Int) api.Mat {
 		a.At = append(a.At, list[i%len(list)])
 	}
 	return a
+}
+
+// Unsound are matrices that go beyond each bound alone, or have entries that do not go with their shape; of some the product of rows and columns wraps to the number of the entries.
+func Unsound() []api.Mat {
+	const half = 1 << (bits.UintSize / 2)
+	var all []api.Mat
+	for _, shape := range [][3]int{
+		{-1, 0, 0}, {0, -1, 0}, {-1, -1, 1}, {-2, -2, 4}, {-1, 65, 0}, {65, -1, 0}, {-3, 0, 0}, {0, -3, 0},
+		{65, 0, 0}, {0, 65, 0}, {65, 1, 65}, {1, 65, 65}, {65, 65, 65 * 65}, {128, 2, 256},
+		{1, 2, 3}, {1, 2, 1}, {2, 2, 3}, {1, 1, 0}, {0, 0, 1}, {0, 3, 3}, {3, 0, 3}, {64, 64, 2}, {2, 1, 1}, {1, -1, 1}, {-1, 1, 1},
+		{math.MinInt, 0, 0}, {0, math.MinInt, 0}, {math.MaxInt, 0, 0}, {0, math.MaxInt, 0}, {math.MinInt, math.MinInt, 0}, {math.MinInt, 2, 0},
+		{math.MaxInt, math.MaxInt, 1}, {half, half, 0}, {math.MaxInt, 2, 0},
+	} {
+		all = append(all, api.Mat{Rows: shape[0], Cols: shape[1], At: Filled(1, shape[2], Nums(1, 2, 3, 4)).At})
+	}
+	return all
 }
 
 // Mat holds the matrix that a call answers against the one that it must answer: the shape, and each entry in least form.

@@ -48,10 +48,10 @@ func ListMemory(t Reporter, calls map[string]func(list []api.Int) []api.Int, lis
 
 func listMemoryOf(t Reporter, name string, call func(list []api.Int) []api.Int, x []api.Int) {
 	t.Helper()
-	a := roomyInts(x)
+	a := Roomy(x)
 	first := call(a)
 	second := call(a)
-	want := roomyInts(first)
+	want := Roomy(first)
 	if !areRoomyInts(a, x) {
 		t.Errorf("%s of %v changed what was handed in", name, x)
 	}
@@ -60,21 +60,21 @@ func listMemoryOf(t Reporter, name string, call func(list []api.Int) []api.Int, 
 		sizes = append(sizes, n.Mag)
 	}
 	Apart(t, name, sizes...)
-	scribbleInts(first)
+	Spoil(first)
 	if !areRoomyInts(a, x) {
 		t.Errorf("%s of %v shares memory with what was handed in", name, x)
 	}
 	if !sameInts(second, want) {
 		t.Errorf("%s of %v: two answers share memory, or differ", name, x)
 	}
-	scribbleInts(a)
+	Spoil(a)
 	if !sameInts(second, want) {
 		t.Errorf("%s of %v hangs on what was handed in", name, x)
 	}
 }
 
-// roomyInts is a copy of a, all its integers and itself with spare room behind them.
-func roomyInts(a []api.Int) []api.Int {
+// Roomy is a copy of a, all its integers and itself with spare room behind them.
+func Roomy(a []api.Int) []api.Int {
 	var all []api.Int
 	for _, n := range slices.Concat(a, roomOfInts()) {
 		all = append(all, api.Int{Neg: n.Neg, Mag: roomy(n.Mag)})
@@ -95,8 +95,8 @@ func roomOfInts() []api.Int {
 	return []api.Int{Plus(94), Minus(95, 96)}
 }
 
-// scribbleInts writes over a list of integers and over the integers themselves, spare room included.
-func scribbleInts(a []api.Int) {
+// Spoil writes over a list of integers and over the integers themselves, spare room included.
+func Spoil(a []api.Int) {
 	a = a[:cap(a)]
 	for i, n := range a {
 		scribble(n.Mag)

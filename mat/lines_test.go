@@ -56,7 +56,7 @@ func TestLines(t *testing.T) {
 
 // P9.1.
 func TestLinesOfUnsound(t *testing.T) {
-	for _, a := range unsoundOnes() {
+	for _, a := range check.Unsound() {
 		for i := range mat.Lines(a) {
 			t.Errorf("Lines of %d by %d with %d entries tells row %d", a.Rows, a.Cols, len(a.At), i)
 		}
@@ -115,7 +115,7 @@ func TestLinesAtATime(t *testing.T) {
 				for _, row := range lines {
 					answers[w].Rows++
 					answers[w].At = append(answers[w].At, inLeastForm(row)...)
-					spoil(row)
+					check.Spoil(row)
 				}
 			}
 		})
@@ -126,32 +126,20 @@ func TestLinesAtATime(t *testing.T) {
 	}
 }
 
-// spoil writes over a list of integers and its words, spare room included.
-func spoil(list []api.Int) {
-	list = list[:cap(list)]
-	for i, n := range list {
-		words := n.Mag[:cap(n.Mag)]
-		for j := range words {
-			words[j] = ^words[j]
-		}
-		list[i] = plus(77)
-	}
-}
-
 // P9.5, R6: what becomes of the matrix after the call changes nothing, be it ahead of the first row or between two.
 func TestLinesHangOnTheCall(t *testing.T) {
 	fresh := func() api.Mat { return of(3, 2, num(1), plus(2, 0), minus(3), num(4), minus(0), plus(5, 6)) }
 	want, _ := mat.Least(fresh())
 	a := fresh()
 	lines := mat.Lines(a)
-	spoil(a.At)
+	check.Spoil(a.At)
 	check.Mat(t, "changed ahead of the first row", told(t, "changed ahead of the first row", lines, 2), want)
 	a = fresh()
 	lines = mat.Lines(a)
 	var got []api.Int
 	for _, row := range lines {
 		got = append(got, row...)
-		spoil(a.At)
+		check.Spoil(a.At)
 	}
 	check.Ints(t, "changed between two rows", got, want.At)
 	check.Mat(t, "changed, and gone over again", told(t, "changed, and gone over again", lines, 2), want)
@@ -166,7 +154,7 @@ func TestLinesOwnRows(t *testing.T) {
 		i := 0
 		for _, row := range lines {
 			check.Ints(t, fmt.Sprintf("row %d", i), row, start.At[3*i:3*i+3])
-			spoil(row)
+			check.Spoil(row)
 			i++
 		}
 		check.Same(t, "rows", i, 5)
@@ -179,6 +167,6 @@ func TestLinesOwnRows(t *testing.T) {
 	}
 	for i, row := range kept {
 		check.Ints(t, fmt.Sprintf("row %d, kept", i), row, start.At[3*i:3*i+3])
-		spoil(row)
+		check.Spoil(row)
 	}
 }

@@ -57,24 +57,12 @@ func soundOnes() []api.Mat {
 	}
 }
 
-// unsoundOnes go beyond each bound alone, or have entries that do not go with their shape; of some the product of rows and columns wraps to the number of the entries.
-func unsoundOnes() []api.Mat {
-	return []api.Mat{
-		of(-1, 0), of(0, -1), of(-1, -1, num(1)), of(-2, -2, nums(1, 2, 3, 4)...), of(-1, 65), of(65, -1), of(-3, 0), of(0, -3),
-		of(65, 0), of(0, 65), full(65, 1, num(1)), full(1, 65, num(1)), full(65, 65, num(0)), full(128, 2, num(3)),
-		of(1, 2, nums(1, 2, 3)...), of(1, 2, num(1)), of(2, 2, nums(1, 2, 3)...), of(1, 1), of(0, 0, num(1)), of(0, 3, nums(1, 2, 3)...), of(3, 0, nums(1, 2, 3)...),
-		of(64, 64, nums(1, 2)...), of(2, 1, num(1)), of(1, -1, num(1)), of(-1, 1, num(1)),
-		of(math.MinInt, 0), of(0, math.MinInt), of(math.MaxInt, 0), of(0, math.MaxInt), of(math.MinInt, math.MinInt), of(math.MinInt, 2),
-		of(math.MaxInt, math.MaxInt, num(1)), of(1<<32, 1<<32), of(math.MaxInt, 2),
-	}
-}
-
 // P9.1: what is sound, and what is not.
 func TestCheck(t *testing.T) {
 	for _, a := range soundOnes() {
 		check.Same(t, fmt.Sprintf("Check of %d by %d with %d entries", a.Rows, a.Cols, len(a.At)), mat.Check(a), api.OK)
 	}
-	for _, a := range unsoundOnes() {
+	for _, a := range check.Unsound() {
 		check.Same(t, fmt.Sprintf("Check of %d by %d with %d entries", a.Rows, a.Cols, len(a.At)), mat.Check(a), api.ErrMat)
 	}
 	for rows := -2; rows <= 66; rows++ {
@@ -166,7 +154,7 @@ func callsOfLists() map[string]func(list ...api.Mat) (api.Mat, api.Errno) {
 // P9.1: every call that takes a matrix refuses one that is not sound, whatever else is wrong.
 func TestUnsound(t *testing.T) {
 	for name, call := range takers() {
-		for _, a := range unsoundOnes() {
+		for _, a := range check.Unsound() {
 			got, e := call(a)
 			holdRefusal(t, fmt.Sprintf("%s, %d by %d with %d entries", name, a.Rows, a.Cols, len(a.At)), got, e, api.ErrMat)
 		}

@@ -100,7 +100,7 @@ func TestMemoryOfLists(t *testing.T) {
 	for name, call := range callsOfLists() {
 		got, e := call(whole[:2]...)
 		check.Same(t, name, e, api.OK)
-		spoil(got.At)
+		check.Spoil(got.At)
 		for i := range whole {
 			check.Mat(t, fmt.Sprintf("%s: matrix %d of what was handed in", name, i), whole[i], start[i])
 		}
