@@ -8,6 +8,7 @@ import (
 	"trellis/api"
 	"trellis/bareiss"
 	"trellis/check"
+	"trellis/made"
 )
 
 // The integers, rows and matrices of the tests.
@@ -15,6 +16,8 @@ var (
 	num, nums   = check.Num, check.Nums
 	plus, minus = check.Plus, check.Minus
 	row, mx     = check.Row, check.Matrix
+	first       = made.First
+	product     = made.Product
 )
 
 // of names a call in a test's report.
@@ -73,15 +76,6 @@ func holdLeading(t *testing.T, a api.Mat, want []api.Int) {
 	check.Same(t, of("Leading", a), e, api.OK)
 	check.Ints(t, of("Leading", a), got, want)
 	holdDet(t, a, want[len(want)-1])
-}
-
-// first are the places 0 to n - 1.
-func first(n int) []int {
-	places := make([]int, n)
-	for i := range places {
-		places[i] = i
-	}
-	return places
 }
 
 // taker is a call on a matrix, what it answers told as one list of integers; a 0 alone is told as nothing.

@@ -7,28 +7,11 @@ import (
 	"trellis/api"
 	"trellis/bareiss"
 	"trellis/check"
+	"trellis/made"
 	"trellis/mat"
 	"trellis/modp"
 	"trellis/zint"
 )
-
-// determinant is the sum, over all ways to pick an entry in each row and each column, of the products with their signs.
-func determinant(a api.Mat) api.Int {
-	if a.Rows == 0 {
-		return num(1)
-	}
-	sum := num(0)
-	for j := range a.Cols {
-		cols := append(first(j), first(a.Cols)[j+1:]...)
-		rest, _ := mat.Pick(a, first(a.Rows)[1:], cols)
-		term := zint.Mul(a.At[j], determinant(rest))
-		if j%2 == 1 {
-			term = zint.Neg(term)
-		}
-		sum = zint.Add(sum, term)
-	}
-	return sum
-}
 
 // corner is the matrix of the first k rows and columns.
 func corner(a api.Mat, k int) api.Mat {
@@ -40,7 +23,7 @@ func corner(a api.Mat, k int) api.Mat {
 func leadingOf(a api.Mat) []api.Int {
 	var all []api.Int
 	for k := range a.Rows + 1 {
-		all = append(all, determinant(corner(a, k)))
+		all = append(all, made.Det(corner(a, k)))
 	}
 	return all
 }
@@ -83,15 +66,6 @@ func TestZeros(t *testing.T) {
 	}
 }
 
-// long is a matrix of this shape whose entries have at most so many words.
-func long(s *source, rows, cols int) api.Mat {
-	a := api.Mat{Rows: rows, Cols: cols}
-	for range rows * cols {
-		a.At = append(a.At, s.next())
-	}
-	return a
-}
-
 // detOf is what Det answers.
 func detOf(t *testing.T, a api.Mat) api.Int {
 	t.Helper()
@@ -104,14 +78,14 @@ func detOf(t *testing.T, a api.Mat) api.Int {
 func TestLawsOfDet(t *testing.T) {
 	for _, n := range []int{0, 1, 2, 3, 6, 12, 25} {
 		for words := range 3 {
-			s := &source{words: words, seed: uint64(1000 * n)}
-			a, b := long(s, n, n), long(s, n, n)
+			s := newSource(words, uint64(1000*n))
+			a, b := s.Whole(n, n), s.Whole(n, n)
 			det := detOf(t, a)
 			holdDet(t, product(a, b), zint.Mul(det, detOf(t, b)))
 			turned, _ := mat.Turn(a)
 			holdDet(t, turned, det)
 			for i := range min(n, 2) {
-				times := s.next()
+				times := s.Next()
 				other, _ := mat.Least(a)
 				for j := range n {
 					other.At[i*n+j] = zint.Mul(times, other.At[i*n+j])
@@ -125,7 +99,7 @@ func TestLawsOfDet(t *testing.T) {
 // P5: modulo each prime it is what modp.Det answers.
 func TestDetModuloPrimes(t *testing.T) {
 	for _, n := range []int{2, 5, 17, 40, 64} {
-		a := long(&source{words: 1, seed: uint64(n)}, n, n)
+		a := newSource(1, uint64(n)).Whole(n, n)
 		d := detOf(t, a)
 		for _, p := range []uint64{2, 3, 65537, 2147483629, 2147483647} {
 			rest, _ := zint.Mod(d, plus(p))
@@ -139,8 +113,8 @@ func TestDetModuloPrimes(t *testing.T) {
 func TestLawsOfCore(t *testing.T) {
 	for _, shape := range [][2]int{{1, 1}, {2, 2}, {3, 5}, {5, 3}, {7, 7}, {12, 12}, {30, 9}, {9, 30}} {
 		for rank := range min(shape[0], shape[1]) + 1 {
-			s := &source{words: rank % 3, seed: uint64(rank)}
-			a := product(long(s, shape[0], rank), long(s, rank, shape[1]))
+			s := newSource(rank%3, uint64(rank))
+			a := product(s.Whole(shape[0], rank), s.Whole(rank, shape[1]))
 			rows, cols, d, e := bareiss.Core(a)
 			check.Same(t, of("Core", a), e, api.OK)
 			turned, _ := mat.Turn(a)
@@ -198,7 +172,7 @@ func backwards(a api.Mat, det api.Int) (api.Mat, api.Int) {
 		order[i] = a.Rows - 1 - i
 	}
 	other, _ := mat.Pick(a, order, first(a.Cols))
-	if isOdd(order) {
+	if made.IsOdd(order) {
 		det = zint.Neg(det)
 	}
 	return other, det

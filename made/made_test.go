@@ -1,0 +1,95 @@
+package made_test
+
+import (
+	"slices"
+	"testing"
+
+	"trellis/api"
+	"trellis/check"
+	"trellis/made"
+	"trellis/mat"
+	"trellis/zint"
+)
+
+func unit(n int) api.Mat {
+	u, _ := mat.Unit(n)
+	return u
+}
+
+func TestUnimodular(t *testing.T) {
+	for n := range 8 {
+		for words := range 3 {
+			for seed := range 20 {
+				s := made.Source{Words: words, Seed: uint64(100 * seed)}
+				u, inverse, det := s.Unimodular(n)
+				check.Mat(t, "it times its inverse", made.Product(u, inverse), unit(n))
+				check.Mat(t, "its inverse times it", made.Product(inverse, u), unit(n))
+				check.Int(t, "its determinant", det, made.Det(u))
+			}
+		}
+	}
+}
+
+func TestDet(t *testing.T) {
+	for a, want := range map[string]int{"0x0": 1, "-7": -7, "1 2; 3 4": -2, "0 1 0; 0 0 1; 1 0 0": 1, "0 0 2; 0 3 0; 5 0 0": -30} {
+		check.Int(t, a, made.Det(check.Matrix(a)), check.Num(want))
+	}
+}
+
+func TestChain(t *testing.T) {
+	s := made.Source{Seed: 1}
+	list := s.Chain(40)
+	check.Same(t, "how many", len(list), 40)
+	for i, n := range list {
+		check.Same(t, "sign", zint.Sign(n), 1)
+		_, e := zint.Exact(n, list[max(0, i-1)])
+		check.Same(t, "does the one before divide it", e, api.OK)
+	}
+	check.Same(t, "is the last above the first", zint.Cmp(list[39], list[0]), 1)
+}
+
+func TestDisguised(t *testing.T) {
+	s := made.Source{Words: 2, Seed: 1}
+	a := s.Whole(9, 8)
+	b := made.Disguised(a)
+	same, e := mat.Equal(a, b)
+	check.Same(t, "sound", e, api.OK)
+	check.Same(t, "the same numbers", same, true)
+	least, _ := mat.Least(b)
+	check.Mat(t, "in least form", least, a)
+}
+
+func TestPlaces(t *testing.T) {
+	s := made.Source{Seed: 1}
+	for n := range 9 {
+		order := s.Order(n)
+		if !slices.Equal(slices.Sorted(slices.Values(order)), made.First(n)) {
+			t.Errorf("no order of %d places: %v", n, order)
+		}
+		for count := range n + 1 {
+			places := s.Places(count, n)
+			if len(places) != count || !slices.ContainsFunc(made.Choices(made.First(n), count), func(c []int) bool { return slices.Equal(c, places) }) {
+				t.Errorf("no choice of %d out of %d: %v", count, n, places)
+			}
+		}
+	}
+	for odd, orders := range map[bool][][]int{false: {nil, {0}, {1, 2, 0}, {1, 0, 3, 2}}, true: {{1, 0}, {2, 1, 0}, {1, 2, 3, 0}}} {
+		for _, order := range orders {
+			check.Same(t, "IsOdd", made.IsOdd(order), odd)
+		}
+	}
+}
+
+func TestSmall(t *testing.T) {
+	count := 0
+	for a := range made.AllSmall(2, 2, []int{-1, 0, 2}) {
+		check.Int(t, "Det", check.Num(a.Det(made.First(2), made.First(2))), made.Det(a.Matrix(2)))
+		count++
+	}
+	check.Same(t, "how many", count, 81)
+	some := slices.Collect(made.SomeSmall(2, 2, 40, []int{-1, 0, 2}))
+	check.Same(t, "how many of them", len(some), 3)
+	check.Mat(t, "the last", some[2].Matrix(2), check.Matrix("2 2; 2 2"))
+	check.Same(t, "Rank", made.Small{{1, 2, 3}, {2, 4, 6}, {0, 0, 1}}.Rank(made.First(3), made.First(3)), 2)
+	check.Same(t, "how many choices", len(made.Choices(made.First(5), 2)), 10)
+}
