@@ -114,7 +114,7 @@ func TestLawsOfCore(t *testing.T) {
 	for _, shape := range [][2]int{{1, 1}, {2, 2}, {3, 5}, {5, 3}, {7, 7}, {12, 12}, {30, 9}, {9, 30}} {
 		for rank := range min(shape[0], shape[1]) + 1 {
 			s := newSource(rank%3, uint64(rank))
-			a := product(s.Whole(shape[0], rank), s.Whole(rank, shape[1]))
+			a := s.OfRank(shape[0], shape[1], rank)
 			rows, cols, d, e := bareiss.Core(a)
 			check.Same(t, of("Core", a), e, api.OK)
 			turned, _ := mat.Turn(a)

@@ -7,20 +7,8 @@ import (
 	"trellis/api"
 	"trellis/bareiss"
 	"trellis/check"
+	"trellis/made"
 )
-
-// numbers are in least form and in no least form, 0 and -1 and long ones among them.
-func numbers() []api.Int {
-	return []api.Int{num(1), minus(0, 0), plus(6, 0), num(-1), num(0), minus(0, 1), plus(append(check.Mixed(5, 4), 0)...)}
-}
-
-// samples are matrices of all ranks, shapes that are not square among them.
-func samples() []api.Mat {
-	return []api.Mat{
-		mx("0x0"), mx("0x2"), mx("2x0"), mx("1"), mx("0"), mx("-7"), mx("0 1; 1 0"), mx("1 0; 0 1"), mx("1 2; 2 4"), mx("0 0; 0 0"), mx("0 0 2; 0 3 0; 5 0 0"),
-		check.Filled(2, 2, numbers()), check.Filled(3, 3, numbers()), check.Filled(3, 2, numbers()[2:]), check.Filled(1, 7, numbers()), check.Filled(7, 1, numbers()), check.Filled(5, 5, numbers()),
-	}
-}
 
 // R4: what is handed in stays as it is, spare room included, and an answer has memory of its own, its spare room too.
 func TestMemory(t *testing.T) {
@@ -37,7 +25,7 @@ func TestMemory(t *testing.T) {
 			return got
 		}
 	}
-	check.MatMemory(t, calls, samples())
+	check.MatMemory(t, calls, made.Samples())
 }
 
 // R4: the integers of an answer have memory of their own where a row that is handed in is left as it is.
@@ -59,7 +47,7 @@ func scribble(places []int) {
 
 // R4: lists of places have memory of their own, the two of Core too.
 func TestMemoryOfPlaces(t *testing.T) {
-	for _, a := range samples() {
+	for _, a := range made.Samples() {
 		for _, call := range []func(a api.Mat) ([]int, api.Errno){bareiss.Pivots, bareiss.RowSet} {
 			one, _ := call(a)
 			other, _ := call(a)

@@ -208,6 +208,23 @@ func TestIntegers(t *testing.T) {
 	}
 }
 
+func TestSieve(t *testing.T) {
+	for _, c := range []struct {
+		start int
+		want  list
+	}{
+		{0, list{2, 3, 5, 7, 11, 13, 17, 19, 23, 29}}, {7, list{7, 11, 13, 17, 19, 23, 29, 31}}, {46337 * 46337, nil}, {1<<31 - 30, list{2147483629, 2147483647}},
+	} {
+		var primes list
+		for i, prime := range check.Sieve(c.start, c.start+30) {
+			if prime {
+				primes = append(primes, uint64(c.start+i))
+			}
+		}
+		check.Words(t, "Sieve", primes, c.want)
+	}
+}
+
 func TestApart(t *testing.T) {
 	whole := list{1, 2, 3, 4}
 	for _, c := range []struct {

@@ -65,6 +65,11 @@ func (s *Source) Whole(rows, cols int) api.Mat {
 	return a
 }
 
+// OfRank is a matrix of this shape and at most this rank.
+func (s *Source) OfRank(rows, cols, rank int) api.Mat {
+	return Product(s.Whole(rows, rank), s.Whole(rank, cols))
+}
+
 // First are the places 0 to n - 1.
 func First(n int) []int {
 	places := make([]int, n)

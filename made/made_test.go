@@ -48,6 +48,25 @@ func TestChain(t *testing.T) {
 	check.Same(t, "is the last above the first", zint.Cmp(list[39], list[0]), 1)
 }
 
+func TestOfRank(t *testing.T) {
+	for rank := range 4 {
+		s := made.Source{Seed: uint64(rank)}
+		a := s.OfRank(3, 5, rank)
+		check.Same(t, "sound", mat.Check(a), api.OK)
+		check.Same(t, "shape", [2]int{a.Rows, a.Cols}, [2]int{3, 5})
+		for _, cols := range made.Choices(made.First(5), 3) {
+			square, _ := mat.Pick(a, made.First(3), cols)
+			check.Same(t, "is there a determinant above the rank", rank < 3 && zint.Sign(made.Det(square)) != 0, false)
+		}
+	}
+}
+
+func TestSamples(t *testing.T) {
+	for _, a := range made.Samples() {
+		check.Same(t, "sound", mat.Check(a), api.OK)
+	}
+}
+
 func TestDisguised(t *testing.T) {
 	s := made.Source{Words: 2, Seed: 1}
 	a := s.Whole(9, 8)

@@ -38,11 +38,6 @@ func detOf(a api.Mat) api.Int {
 	return d
 }
 
-// ofRank is a matrix of this shape and at most this rank.
-func ofRank(s *made.Source, rows, cols, rank int) api.Mat {
-	return product(s.Whole(rows, rank), s.Whole(rank, cols))
-}
-
 // holdSizes holds Gcd and Compound at k, in other forms of the entries too.
 func holdSizes(t *testing.T, a api.Mat, k int, det func(a api.Mat) api.Int) {
 	t.Helper()
@@ -79,7 +74,7 @@ func TestSizesByWays(t *testing.T) {
 			for rank := range min(rows, cols) + 1 {
 				for words := range 3 {
 					s := &made.Source{Words: words, Seed: uint64(1000*rows + 100*cols + 10*rank)}
-					a := ofRank(s, rows, cols, rank)
+					a := s.OfRank(rows, cols, rank)
 					for k := range min(rows, cols) + 1 {
 						holdSizes(t, a, k, made.Det)
 					}
@@ -96,7 +91,7 @@ func TestSizesOfLarger(t *testing.T) {
 	} {
 		for rank := max(0, c[2]-2); rank <= min(c[0], c[1]); rank++ {
 			s := &made.Source{Words: rank % 3, Seed: uint64(rank)}
-			holdSizes(t, ofRank(s, c[0], c[1], rank), c[2], detOf)
+			holdSizes(t, s.OfRank(c[0], c[1], rank), c[2], detOf)
 		}
 	}
 }
@@ -214,7 +209,7 @@ func TestLawsOfInverse(t *testing.T) {
 		for rank := range n + 1 {
 			for words := range 4 {
 				s := &made.Source{Words: words, Seed: uint64(1000*n + 10*rank + words)}
-				a := ofRank(s, n, n, rank)
+				a := s.OfRank(n, n, rank)
 				holdLawsOfAdjugate(t, a)
 				holdLawsOfInverse(t, a)
 			}
@@ -227,7 +222,7 @@ func TestEntriesOfAdjugate(t *testing.T) {
 	for _, n := range []int{1, 2, 3, 4, 5, 7, 12} {
 		for rank := max(0, n-2); rank <= n; rank++ {
 			s := &made.Source{Words: n % 3, Seed: uint64(10*n + rank)}
-			a := ofRank(s, n, n, rank)
+			a := s.OfRank(n, n, rank)
 			adj := api.Mat{Rows: n, Cols: n}
 			for i := range n {
 				for j := range n {
@@ -248,7 +243,7 @@ func TestAdjugateOfProduct(t *testing.T) {
 	for _, n := range []int{0, 1, 2, 3, 4, 6, 9} {
 		for _, less := range []int{0, 1, 2} {
 			s := &made.Source{Words: less, Seed: uint64(10*n + less)}
-			a, b := s.Whole(n, n), ofRank(s, n, n, max(0, n-less))
+			a, b := s.Whole(n, n), s.OfRank(n, n, max(0, n-less))
 			ofA, e := minors.Adjugate(a)
 			check.Same(t, of("Adjugate", a), e, api.OK)
 			ofB, e := minors.Adjugate(b)

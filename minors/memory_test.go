@@ -7,21 +7,9 @@ import (
 
 	"trellis/api"
 	"trellis/check"
+	"trellis/made"
 	"trellis/minors"
 )
-
-// numbers are in least form and in no least form, 0 and -1 and long ones among them.
-func numbers() []api.Int {
-	return []api.Int{num(1), minus(0, 0), plus(6, 0), num(-1), num(0), minus(0, 1), plus(append(check.Mixed(5, 4), 0)...)}
-}
-
-// samples are matrices of all ranks, shapes that are not square among them.
-func samples() []api.Mat {
-	return []api.Mat{
-		mx("0x0"), mx("0x2"), mx("2x0"), mx("1"), mx("0"), mx("-7"), mx("0 1; 1 0"), mx("1 0; 0 1"), mx("1 2; 2 4"), mx("0 0; 0 0"), mx("0 0 2; 0 3 0; 5 0 0"),
-		check.Filled(2, 2, numbers()), check.Filled(3, 3, numbers()), check.Filled(3, 2, numbers()[2:]), check.Filled(1, 7, numbers()), check.Filled(7, 1, numbers()), check.Filled(4, 4, numbers()), check.Filled(5, 5, numbers()), ones(4, 4),
-	}
-}
 
 // R4: what is handed in stays as it is, spare room included, and an answer has memory of its own, its spare room too.
 func TestMemory(t *testing.T) {
@@ -44,7 +32,7 @@ func TestMemory(t *testing.T) {
 		got, _ := minors.Minor(a, []int{1, 0}, []int{0, 1})
 		return []api.Int{got}
 	}
-	check.MatMemory(t, calls, samples())
+	check.MatMemory(t, calls, made.Samples())
 }
 
 // roomyPlaces is a copy of a list with spare room behind it.
@@ -56,7 +44,7 @@ func roomyPlaces(list []int) []int {
 func TestMemoryOfPlaces(t *testing.T) {
 	for _, list := range [][]int{nil, {0}, {1, 0}, {2, 2, 1}, {0, 9}, {-1}, with(65), with(64, -1)} {
 		for _, other := range [][]int{nil, {2}, {1, 2}, {2, 1, 0}, {-5, 0}, {7}, with(65), with(64, 70)} {
-			for _, a := range samples() {
+			for _, a := range made.Samples() {
 				rows, cols := roomyPlaces(list), roomyPlaces(other)
 				minors.Minor(a, rows, cols)
 				n, m := len(list), len(other)

@@ -23,34 +23,12 @@ func holdBelow(t *testing.T, n, want uint64, wantErr api.Errno) {
 	check.Same(t, fmt.Sprintf("Below(%d)", n), e, wantErr)
 }
 
-// sieve says of each number from start on, below end, if it is a prime: all multiples of others are crossed out. end is at most 2^31.
-func sieve(start, end int) []bool {
-	const root = 46341
-	var crossed [root]bool
-	prime := make([]bool, end-start)
-	for i := range prime {
-		prime[i] = start+i > 1
-	}
-	for d := 2; d < root; d++ {
-		if crossed[d] {
-			continue
-		}
-		for m := d * d; m < root; m += d {
-			crossed[m] = true
-		}
-		for m := max(d*d, (start+d-1)/d*d); m < end; m += d {
-			prime[m-start] = false
-		}
-	}
-	return prime
-}
-
 // P12.1: from 0 on, around powers of 2 and the root of 2^31, and up to its end.
 func TestPrimes(t *testing.T) {
 	for _, span := range [][2]int{{0, 70000}, {1<<24 - 3000, 1<<24 + 3000}, {1 << 30, 1<<30 + 3000}, {46337*46337 - 500, 46337*46337 + 500}, {1<<31 - 12000, 1 << 31}} {
 		start, end := span[0], span[1]
 		last := uint64(0)
-		for i, prime := range sieve(start, end) {
+		for i, prime := range check.Sieve(start, end) {
 			n := uint64(start + i)
 			holdPrime(t, n, prime, api.OK)
 			switch {
@@ -70,8 +48,8 @@ func TestPrimes(t *testing.T) {
 // P12.1: such as have no small divisor, and such as many tests take for primes.
 func TestNoPrimes(t *testing.T) {
 	const low, high = 45000, 46341
-	for i, prime := range sieve(low, high) {
-		for j, other := range sieve(low, high) {
+	for i, prime := range check.Sieve(low, high) {
+		for j, other := range check.Sieve(low, high) {
 			if prime && other && (low+i)*(low+j) < 1<<31 && (i == j || (i+j)%7 == 0) {
 				holdPrime(t, uint64((low+i)*(low+j)), false, api.OK)
 			}
