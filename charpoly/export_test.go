@@ -1,0 +1,4 @@
+package charpoly
+
+// Common is for the tests outside.
+var Common = common
