@@ -48,6 +48,35 @@ func TestChain(t *testing.T) {
 	check.Same(t, "is the last above the first", zint.Cmp(list[39], list[0]), 1)
 }
 
+func TestHermite(t *testing.T) {
+	above, below := 0, 0
+	for seed := range 30 {
+		s := made.Source{Words: seed % 3, Seed: uint64(seed)}
+		pivots := s.Places(3, 6)
+		a := s.Hermite(4, 6, pivots)
+		check.Same(t, "sound", mat.Check(a), api.OK)
+		for i := range 4 {
+			for j := range 6 {
+				entry := a.At[i*6+j]
+				step := slices.Index(pivots, j)
+				switch {
+				case i == 3 || j < pivots[i] || step >= 0 && step < i:
+					check.Int(t, "what stands left of a pivot, or below", entry, check.Num(0))
+				case step == i:
+					check.Same(t, "sign of a pivot", zint.Sign(entry), 1)
+				case step > i:
+					pivot := a.At[step*6+j]
+					check.Same(t, "is it reduced", zint.Sign(entry) >= 0 && zint.Cmp(entry, pivot) < 0, true)
+					above += zint.Sign(entry)
+				default:
+					below -= min(0, zint.Sign(entry))
+				}
+			}
+		}
+	}
+	check.Same(t, "are there numbers above pivots, and such below 0", above > 0 && below > 0, true)
+}
+
 func TestOfRank(t *testing.T) {
 	for rank := range 4 {
 		s := made.Source{Seed: uint64(rank)}

@@ -80,3 +80,19 @@ func (s *Source) Smith(rows, cols int, list []api.Int) api.Mat {
 	diag, _ := mat.Diag(rows, cols, list)
 	return Product(left, diag, right)
 }
+
+// Hermite is a matrix of this shape in Hermite form, with its pivots in these columns.
+func (s *Source) Hermite(rows, cols int, pivots []int) api.Mat {
+	a, _ := mat.Zero(rows, cols)
+	for i, c := range pivots {
+		pivot := zint.Add(zint.Abs(s.Next()), zint.Of(1))
+		for k := range i {
+			a.At[k*cols+c], _ = zint.Mod(s.Next(), pivot)
+		}
+		a.At[i*cols+c] = pivot
+		for j := c + 1; j < cols; j++ {
+			a.At[i*cols+j] = s.Next()
+		}
+	}
+	return a
+}
