@@ -141,3 +141,32 @@ func TestSmall(t *testing.T) {
 	check.Same(t, "Rank", made.Small{{1, 2, 3}, {2, 4, 6}, {0, 0, 1}}.Rank(made.First(3), made.First(3)), 2)
 	check.Same(t, "how many choices", len(made.Choices(made.First(5), 2)), 10)
 }
+
+func TestDivisor(t *testing.T) {
+	a := made.Small{{2, 4, 4}, {-6, 6, 12}, {10, -4, -16}}
+	for size, want := range []int{1, 2, 12, 144, 0} {
+		check.Same(t, "Divisor", a.Divisor(size, 3), want)
+	}
+	check.Same(t, "Divisor of no rows", made.Small{}.Divisor(0, 3), 1)
+	check.Same(t, "Divisor of zeros", made.Small{{0, 0}}.Divisor(1, 2), 0)
+}
+
+func TestLattice(t *testing.T) {
+	l := made.LatticeOf(made.Small{{2, 0, 0}, {0, 3, 0}, {4, 3, 0}}, 3)
+	check.Same(t, "rank and divisor", [2]int{l.Rank, l.Minor}, [2]int{2, 6})
+	check.Mat(t, "Matrix", l.Matrix(), check.Matrix("2 0 0; 0 3 0; 4 3 0"))
+	for _, c := range []struct {
+		row  []int
+		want bool
+	}{{[]int{0, 0, 0}, true}, {[]int{-2, 3, 0}, true}, {[]int{1, 0, 0}, false}, {[]int{2, 2, 0}, false}, {[]int{2, 3, 1}, false}} {
+		check.Same(t, "Has", l.Has(c.row), c.want)
+	}
+	check.Same(t, "Has of both", l.Has([]int{2, 3, 0}, []int{1, 0, 0}), false)
+	more := l.With([]int{1, 0, 0}, []int{0, 0, 5})
+	check.Same(t, "rank and divisor With others", [2]int{more.Rank, more.Minor}, [2]int{3, 15})
+	none := made.LatticeOf(nil, 2)
+	check.Same(t, "rank and divisor of no rows", [2]int{none.Rank, none.Minor}, [2]int{0, 1})
+	check.Same(t, "Has of no rows", none.Has([]int{0, 1}), false)
+	check.Same(t, "Has of no rows, the zero row", none.Has([]int{0, 0}), true)
+	check.Mat(t, "Matrix of no rows", none.Matrix(), check.Matrix("0x2"))
+}

@@ -5,7 +5,6 @@ import (
 	"testing"
 
 	"trellis/api"
-	"trellis/bezout"
 	"trellis/check"
 	"trellis/made"
 	"trellis/zint"
@@ -31,13 +30,7 @@ func TestAllSmall(t *testing.T) {
 func divisorsOf(small made.Small, rows, cols int) []api.Int {
 	var all []api.Int
 	for k := range min(rows, cols) + 1 {
-		var list []api.Int
-		for _, r := range made.Choices(first(rows), k) {
-			for _, c := range made.Choices(first(cols), k) {
-				list = append(list, num(small.Det(r, c)))
-			}
-		}
-		all = append(all, bezout.GcdAll(list))
+		all = append(all, num(small.Divisor(k, cols)))
 	}
 	return all
 }
