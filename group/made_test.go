@@ -11,24 +11,11 @@ import (
 	"trellis/zint"
 )
 
-// shapesAndRanks are shapes of up to 64 rows and columns, with ranks.
-func shapesAndRanks() [][3]int {
-	var all [][3]int
-	for _, rows := range []int{1, 2, 3, 5, 14} {
-		for _, cols := range []int{1, 2, 3, 5, 14} {
-			for part := range 4 {
-				all = append(all, [3]int{rows, cols, min(rows, cols) * part / 3})
-			}
-		}
-	}
-	return append(all, [3]int{64, 64, 64}, [3]int{64, 64, 40}, [3]int{64, 64, 1}, [3]int{64, 20, 20}, [3]int{20, 64, 20}, [3]int{64, 20, 11}, [3]int{20, 64, 11}, [3]int{64, 1, 1}, [3]int{1, 64, 1})
-}
-
 // P22.1 to P22.7: of a list on the diagonal, between two unimodular matrices, the group comes back; and rows by the right one have the classes and orders of their numbers modulo the list.
 func TestGroupsComeBack(t *testing.T) {
-	for _, shape := range shapesAndRanks() {
+	for _, shape := range made.Shapes() {
 		rows, cols, rank := shape[0], shape[1], shape[2]
-		s := made.Source{Words: min(3, 16/max(rows, cols)), Seed: uint64(10000*rows + 100*cols + rank)}
+		s := made.SourceFor(shape)
 		list := s.Chain(rank)
 		left, _, _ := s.Unimodular(rows)
 		right, _, _ := s.Unimodular(cols)

@@ -24,16 +24,10 @@ func shapesAndRanks() [][3]int {
 	return append(all, [3]int{64, 64, 64}, [3]int{64, 64, 63}, [3]int{64, 64, 30}, [3]int{64, 64, 1}, [3]int{64, 64, 0}, [3]int{64, 20, 20}, [3]int{20, 64, 20}, [3]int{64, 20, 11}, [3]int{20, 64, 11}, [3]int{64, 1, 1}, [3]int{1, 64, 1})
 }
 
-// sourceFor gives numbers that are shorter where matrices are larger.
-func sourceFor(shape [3]int) *made.Source {
-	rows, cols, rank := shape[0], shape[1], shape[2]
-	return &made.Source{Words: min(3, 16/max(rows, cols)), Seed: uint64(10000*rows + 100*cols + rank)}
-}
-
 // P18.1 to P18.3: of a form whose rows are mixed the form comes back.
 func TestFormsComeBack(t *testing.T) {
 	for _, shape := range shapesAndRanks() {
-		s := sourceFor(shape)
+		s := made.SourceFor(shape)
 		rows, cols, rank := shape[0], shape[1], shape[2]
 		want := s.Hermite(rows, cols, s.Places(rank, cols))
 		mix, _, _ := s.Unimodular(rows)
@@ -47,7 +41,7 @@ func TestFormsComeBack(t *testing.T) {
 // P18.4: a reduced row and multiples of the form's rows come back.
 func TestRestsComeBack(t *testing.T) {
 	for _, shape := range shapesAndRanks() {
-		s := sourceFor(shape)
+		s := made.SourceFor(shape)
 		rows, cols, rank := shape[0], shape[1], shape[2]
 		pivots := s.Places(rank, cols)
 		h := s.Hermite(rows, cols, pivots)
@@ -65,7 +59,7 @@ func TestRestsComeBack(t *testing.T) {
 // P18.5: a basis of which one row, mixed with the others, was left out or taken too often, comes back when it is put in.
 func TestInsertsComeBack(t *testing.T) {
 	for _, shape := range shapesAndRanks() {
-		s := sourceFor(shape)
+		s := made.SourceFor(shape)
 		cols, rank := shape[1], shape[2]
 		if rank == 0 {
 			continue
@@ -89,7 +83,7 @@ func TestInsertsComeBack(t *testing.T) {
 // P18.2: of a unimodular matrix H is the unit matrix, U the inverse and W the matrix itself.
 func TestFullOfUnimodular(t *testing.T) {
 	for _, n := range []int{0, 1, 2, 3, 4, 7, 15, 40, 64} {
-		s := sourceFor([3]int{max(n, 1), 1, 0})
+		s := made.SourceFor([3]int{max(n, 1), 1, 0})
 		u, inverse, _ := s.Unimodular(n)
 		full := holdFull(t, made.Disguised(u))
 		check.Mat(t, of("H of Full", u), full.H, unitOf(n))

@@ -14,19 +14,6 @@ import (
 	"trellis/zint"
 )
 
-// shapesAndRanks are shapes of up to 64 rows and columns, with ranks.
-func shapesAndRanks() [][3]int {
-	var all [][3]int
-	for _, rows := range []int{1, 2, 3, 5, 14} {
-		for _, cols := range []int{1, 2, 3, 5, 14} {
-			for part := range 4 {
-				all = append(all, [3]int{rows, cols, min(rows, cols) * part / 3})
-			}
-		}
-	}
-	return append(all, [3]int{64, 64, 64}, [3]int{64, 64, 40}, [3]int{64, 64, 1}, [3]int{64, 20, 20}, [3]int{20, 64, 20}, [3]int{64, 20, 11}, [3]int{20, 64, 11}, [3]int{64, 1, 1}, [3]int{1, 64, 1})
-}
-
 // between is a matrix with a list on its diagonal, between two unimodular ones whose inverses are known.
 type between struct {
 	rows, cols               int
@@ -43,12 +30,6 @@ func makeBetween(s *made.Source, rows, cols int, list []api.Int) between {
 	return between{rows, cols, list, product(left, diag, right), leftInv, right, rightInv}
 }
 
-// sourceFor gives numbers that are shorter where matrices are larger.
-func sourceFor(shape [3]int) *made.Source {
-	rows, cols, rank := shape[0], shape[1], shape[2]
-	return &made.Source{Words: min(3, 16/max(rows, cols)), Seed: uint64(10000*rows + 100*cols + rank)}
-}
-
 // basisOf is the Hermite basis of layer 18.
 func basisOf(a api.Mat) api.Mat {
 	basis, _ := hnf.Basis(a)
@@ -63,8 +44,8 @@ func scaled(list []api.Int, rows api.Mat) api.Mat {
 
 // P21.1 and P21.6: kernel, image, complement and saturation come back.
 func TestBasesComeBack(t *testing.T) {
-	for _, shape := range shapesAndRanks() {
-		s := sourceFor(shape)
+	for _, shape := range made.Shapes() {
+		s := made.SourceFor(shape)
 		rank := shape[2]
 		m := makeBetween(s, shape[0], shape[1], s.Chain(rank))
 		a := made.Disguised(m.whole)
@@ -86,8 +67,8 @@ func TestBasesComeBack(t *testing.T) {
 
 // P21.2 and P21.3: solutions come back; a row that is no multiple at one place has none.
 func TestSolutionsComeBack(t *testing.T) {
-	for _, shape := range shapesAndRanks() {
-		s := sourceFor(shape)
+	for _, shape := range made.Shapes() {
+		s := made.SourceFor(shape)
 		rank := shape[2]
 		m := makeBetween(s, shape[0], shape[1], s.Chain(rank))
 		a := made.Disguised(m.whole)
@@ -123,7 +104,7 @@ func manyOf(s *made.Source, n int) []api.Int {
 // P21.5: of multiples of the same rows sum and meet have the divisors and the common multiples; together they may have more than MaxDim rows.
 func TestSumsAndMeetsComeBack(t *testing.T) {
 	for _, shape := range [][3]int{{1, 1, 1}, {1, 2, 2}, {2, 2, 3}, {3, 3, 3}, {5, 4, 6}, {7, 9, 5}, {14, 14, 14}, {64, 64, 3}, {20, 30, 25}, {40, 40, 30}, {64, 64, 64}} {
-		s := sourceFor([3]int{shape[0], max(shape[1], shape[2]), 0})
+		s := made.SourceFor([3]int{shape[0], max(shape[1], shape[2]), 0})
 		one, two, cols := shape[0], shape[1], shape[2]
 		right, _, _ := s.Unimodular(cols)
 		p, q := manyOf(s, min(one, cols)), manyOf(s, min(two, cols))
@@ -149,8 +130,8 @@ func TestSumsAndMeetsComeBack(t *testing.T) {
 
 // P21.4: the index of multiples of the same rows is the product of the multiples.
 func TestIndicesComeBack(t *testing.T) {
-	for _, shape := range shapesAndRanks() {
-		s := sourceFor(shape)
+	for _, shape := range made.Shapes() {
+		s := made.SourceFor(shape)
 		rank := shape[2]
 		m := makeBetween(s, shape[0], shape[1], s.Chain(rank))
 		index, more := num(1), make([]api.Int, rank)

@@ -96,6 +96,26 @@ func TestSamples(t *testing.T) {
 	}
 }
 
+func TestShapes(t *testing.T) {
+	full, less, none := 0, 0, 0
+	for _, shape := range made.Shapes() {
+		rows, cols, rank := shape[0], shape[1], shape[2]
+		check.Same(t, "is it a shape with a rank that it can have", rows > 0 && rows <= api.MaxDim && cols > 0 && cols <= api.MaxDim && rank >= 0 && rank <= min(rows, cols), true)
+		a := made.SourceFor(shape).Whole(rows, cols)
+		check.Same(t, "sound", mat.Check(a), api.OK)
+		check.Mat(t, "the same again", made.SourceFor(shape).Whole(rows, cols), a)
+		switch rank {
+		case min(rows, cols):
+			full++
+		case 0:
+			none++
+		default:
+			less++
+		}
+	}
+	check.Same(t, "are there all kinds of ranks", full > 10 && less > 10 && none > 10, true)
+}
+
 func TestDisguised(t *testing.T) {
 	s := made.Source{Words: 2, Seed: 1}
 	a := s.Whole(9, 8)

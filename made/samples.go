@@ -20,3 +20,22 @@ func Samples() []api.Mat {
 	}
 	return all
 }
+
+// Shapes are shapes of up to 64 rows and columns, with ranks.
+func Shapes() [][3]int {
+	var all [][3]int
+	for _, rows := range []int{1, 2, 3, 5, 14} {
+		for _, cols := range []int{1, 2, 3, 5, 14} {
+			for part := range 4 {
+				all = append(all, [3]int{rows, cols, min(rows, cols) * part / 3})
+			}
+		}
+	}
+	return append(all, [3]int{64, 64, 64}, [3]int{64, 64, 40}, [3]int{64, 64, 1}, [3]int{64, 20, 20}, [3]int{20, 64, 20}, [3]int{64, 20, 11}, [3]int{20, 64, 11}, [3]int{64, 1, 1}, [3]int{1, 64, 1})
+}
+
+// SourceFor gives numbers that are shorter where matrices are larger, and others for each shape and rank.
+func SourceFor(shape [3]int) *Source {
+	rows, cols, rank := shape[0], shape[1], shape[2]
+	return &Source{Words: min(3, 16/max(rows, cols)), Seed: uint64(10000*rows + 100*cols + rank)}
+}

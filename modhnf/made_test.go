@@ -23,16 +23,10 @@ func shapesAndRanks() [][3]int {
 	return append(all, [3]int{64, 64, 64}, [3]int{64, 64, 63}, [3]int{64, 64, 30}, [3]int{64, 64, 1}, [3]int{64, 64, 0}, [3]int{64, 20, 20}, [3]int{20, 64, 20}, [3]int{64, 20, 11}, [3]int{20, 64, 11}, [3]int{64, 1, 1}, [3]int{1, 64, 1})
 }
 
-// sourceFor gives numbers that are shorter where matrices are larger.
-func sourceFor(shape [3]int) *made.Source {
-	rows, cols, rank := shape[0], shape[1], shape[2]
-	return &made.Source{Words: min(3, 16/max(rows, cols)), Seed: uint64(10000*rows + 100*cols + rank)}
-}
-
 // P19.2 and P19.3: of a form whose rows are mixed the form comes back.
 func TestFormsComeBack(t *testing.T) {
 	for _, shape := range shapesAndRanks() {
-		s := sourceFor(shape)
+		s := made.SourceFor(shape)
 		rows, cols, rank := shape[0], shape[1], shape[2]
 		want := s.Hermite(rows, cols, s.Places(rank, cols))
 		mix, _, _ := s.Unimodular(rows)
@@ -44,7 +38,7 @@ func TestFormsComeBack(t *testing.T) {
 // P19.1: a basis with its pivots on the diagonal comes back from its mixed rows at every multiple of its pivots' product; rows that were left out come back where d puts them in.
 func TestBasesComeBack(t *testing.T) {
 	for _, n := range []int{1, 2, 3, 5, 8, 14, 40, 64} {
-		s := sourceFor([3]int{n, n, 0})
+		s := made.SourceFor([3]int{n, n, 0})
 		want := s.Hermite(n, n, first(n))
 		mix, _, _ := s.Unimodular(n)
 		rows := made.Disguised(product(mix, want))
@@ -66,7 +60,7 @@ func TestBasesComeBack(t *testing.T) {
 // P19.4: of a square matrix that is made of unimodular ones and a diagonal Multiple and Volume are the product of the diagonal.
 func TestVolumesComeBack(t *testing.T) {
 	for _, n := range []int{0, 1, 2, 3, 5, 8, 14, 30} {
-		s := sourceFor([3]int{max(n, 1), 1, 0})
+		s := made.SourceFor([3]int{max(n, 1), 1, 0})
 		list := s.Chain(n)
 		whole := num(1)
 		for _, k := range list {

@@ -29,7 +29,7 @@ func shapesAndRanks() [][3]int {
 func TestFormsComeBack(t *testing.T) {
 	for _, shape := range shapesAndRanks() {
 		rows, cols, rank := shape[0], shape[1], shape[2]
-		s := made.Source{Words: min(3, 16/max(rows, cols)), Seed: uint64(10000*rows + 100*cols + rank)}
+		s := made.SourceFor(shape)
 		list := s.Chain(rank)
 		a := made.Disguised(s.Smith(rows, cols, list))
 		want := diagOf(rows, cols, list)
